@@ -1,0 +1,128 @@
+"""What the tests share: any values, spoilt papers, fields, and ways to ask for errors."""
+
+import random
+
+from towerback.errors import ByNought, InvalidField, PaperError, TooMany
+
+GREATEST = 10 ** 100
+
+X = ("quot", 0)
+R = ("root", 0, ((1, 1), (0, 1), (1, 1)))
+
+# Fields without a line that can be split, and one with such a line.
+FIELDS = [
+    0, 2, 5, 9973, X, ("quot", X), ("quot", 5), ("quot", ("quot", 2)), R, ("quot", R),
+    ("root", 0, ((-2, 1), (0, 1), (0, 1), (1, 1))),
+    ("root", 5, (2, 0, 1)), ("quot", ("root", 5, (2, 0, 1))),
+    ("root", R, (((-2, 1),), (), ((1, 1),))),
+    ("root", X, ((((0, 1), (-1, 1)), ((1, 1),)), ((), ((1, 1),)), (((1, 1),), ((1, 1),)))),
+    ("root", 0, ((3, 1), (1, 1))),
+]
+SPLIT = ("root", 0, ((-1, 1), (0, 1), (1, 1)))
+
+
+def deep_value(many):
+    """Return a tuple that is nested so deep."""
+    value = ()
+    for _ in range(many - 1):
+        value = (value,)
+    return value
+
+
+def deep_field(many, kind="quot"):
+    """Return a field that is built so deep over the prime 2."""
+    field, one = 2, 1
+    for _ in range(many):
+        if kind == "quot":
+            field, one = ("quot", field), ((one,), (one,))
+        else:
+            field, one = ("root", field, (one, one)), (one,)
+    return field
+
+
+def any_values():
+    """Return values of all kinds that no function takes as anything but any value."""
+    return [
+        None, True, False, "", "log", "no", "prime", [], [0], [1, 2], (None,), (True, 1), (1, True), (0, False), [(1, 1)],
+        ("quot",), ("quot", None), ("quot", [0]), ["quot", 0], ("root", 0), ("root", 0, ()), ("log", None), (("log",),),
+        ([], []), ((), []), (((),),), ("none",), ("none", None, None), ("none", 1), ("split", 2), ("prime", None),
+        ("back", None), ("joined", None), ("order", 1, None), ("value", 1), ("", ()), (None,) * 5, ((),) * 3, ("a\nb",),
+        deep_value(100), tuple(range(1000)), 10 ** 119, -10 ** 119, PaperError("a"), ByNought("b"), TooMany(3), (TooMany(2),),
+        ("inverse", None), ("inverse", True), ("none", 1, 2, None), (1, (), ()), ((), (), ()), (0, None, None),
+    ]
+
+
+def changed(value):
+    """Return values that are not the value that is told, each in one place."""
+    if isinstance(value, bool) or value is None:
+        return [0]
+    if isinstance(value, int):
+        found = [value + 1, value - 1, str(value), (value,), None]
+        return found + [value == 1] if value in (0, 1) else found
+    if isinstance(value, str):
+        return [value + "s", "", (value,), None]
+    found = [list(value), value + (0,), value + ((),), value + (None,)]
+    if value:
+        found.append(value[:-1])
+    for at, part in enumerate(value):
+        found.extend(value[:at] + (other,) + value[at + 1:] for other in changed(part))
+    return found
+
+
+def random_number(chance, field, most=2):
+    """Return some number of a field."""
+    from towerback.rawways import settled, trimmed_line
+    from towerback.integers import fraction
+    if field == 0:
+        return fraction(chance.randint(-6, 6), chance.randint(1, 4))
+    if isinstance(field, int):
+        return chance.randrange(field)
+    inner = field[1]
+    if field[0] == "root":
+        return trimmed_line(inner, [random_number(chance, inner, most) for _ in range(len(field[2]) - 1)])
+    over = random_line(chance, inner, chance.randint(0, most))
+    under = ()
+    while not under:
+        under = random_line(chance, inner, chance.randint(1, most))
+    return settled(inner, over, under)
+
+
+def random_line(chance, field, many):
+    """Return some line of so many numbers at most."""
+    from towerback.rawways import trimmed_line
+    return trimmed_line(field, [random_number(chance, field, 2) for _ in range(many)])
+
+
+def chances(seed):
+    """Return a source of chance that is the same in each run."""
+    return random.Random(seed)
+
+
+class Asks:
+    """Ways to ask for errors, to be mixed with a TestCase."""
+
+    def refused(self, error, function, *arguments):
+        """Ask that a call raises just this error."""
+        with self.assertRaises(PaperError, msg=(function.__name__, arguments)) as caught:
+            function(*arguments)
+        self.assertIs(type(caught.exception), error, (function.__name__, arguments))
+
+    def refuses_all(self, error, function, ahead, values, behind=()):
+        """Ask that a call raises just this error for each of some values at one place."""
+        for value in values:
+            self.refused(error, function, *ahead, value, *behind)
+
+    def refuses_fields(self, function, *behind):
+        """Ask that a call raises InvalidField for what is no field, whatever stands behind it."""
+        for value in any_values() + [-1, 1, 4, 9, 9974, 10007, deep_field(7)]:
+            self.refused(InvalidField, function, value, *behind)
+            self.refused(InvalidField, function, value, *(None for _ in behind))
+
+    def judges(self, takes, arguments, paper, spoil=True):
+        """Ask that a paper is taken, no spoilt one is, and any value is judged without an error."""
+        self.assertIs(takes(*arguments, paper), True, (arguments, paper))
+        for value in any_values():
+            self.assertIs(takes(*arguments, value), False, (arguments, value))
+        if spoil:
+            for value in changed(paper):
+                self.assertIs(takes(*arguments, value), False, (arguments, value))

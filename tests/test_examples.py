@@ -1,0 +1,92 @@
+"""The examples of points 54 to 63, just as they stand in DOC.md."""
+
+import doctest
+import os
+import unittest
+
+DOCUMENT = os.path.join(os.path.dirname(os.path.abspath(__file__)), "..", "..", "shared", "DOC.md")
+
+# Each point with its module; the names of a point stand for the points behind it, too.
+EXAMPLES = [
+    (54, "fieldways", r"""
+>>> Q, X = 0, ("quot", 0)
+>>> R = ("root", 0, ((1, 1), (0, 1), (1, 1)))
+>>> [is_field(X), is_field(R), is_field(4), is_number(0, (2, 4)), is_line(5, (3, 0)), number_of(0, 6, -4), number_of(7, 1, 3)]
+[True, True, False, False, False, (-3, 2), 5]
+>>> quotient_of(0, ((-1, 1), (0, 1), (1, 1)), ((2, 1), (2, 1)))
+(((-1, 2), (1, 2)), ((1, 1),))
+"""),
+    (55, "fieldways", r"""
+>>> I = ((0, 1), (1, 1))
+>>> [number_plus(0, (1, 2), (1, 3)), number_minus(7, 2, 5), number_times(R, I, I), inverse_of(R, I), number_power(5, 2, 3), negative_of(0, (1, 2))]
+[(5, 6), 4, ((-1, 1),), ((0, 1), (-1, 1)), 3, (-1, 2)]
+>>> number_plus(X, (((1, 1),), ((0, 1), (1, 1))), (((1, 1),), ((1, 1), (1, 1))))
+(((1, 1), (2, 1)), ((0, 1), (1, 1), (1, 1)))
+"""),
+    (56, "lineways", r"""
+>>> [line_plus(5, (1, 2), (4, 3)), line_times(5, (1, 1), (4, 1)), line_at(7, (1, 2, 3), 2), slope_of(3, (1, 1, 1, 1)), powered_line(2, (1, 1), 2)]
+[(), (4, 0, 1), 3, (1, 2), (1, 0, 1)]
+>>> [divided_lines(5, (4, 0, 1), (2, 1)), does_divide(5, (1, 1), (4, 0, 1)), rest_of_power(3, (0, 1), 9, (1, 0, 1)), monic_line(7, (1, 3)), common_line(5, (4, 0, 1), (1, 2, 1))]
+[((3, 1), (3,)), True, (0, 1), (5, 1), (1, 1)]
+"""),
+    (57, "towers", r"""
+>>> E, L = (("exp", (((0, 1), (1, 1)), ((1, 1),))),), (("log", (((0, 1), (1, 1)), ((1, 1),))),)
+>>> [is_tower(E), is_tower((("log", (((2, 1),), ((1, 1),))),)), field_of(E) == ("quot", X), derivative_of((), last_unknown(())), derivative_of(E, last_unknown(E)) == last_unknown(E)]
+[True, False, True, (((1, 1),), ((1, 1),)), True]
+>>> derivative_of(L, last_unknown(L)) == lifted_thing(L, (((1, 1),), ((0, 1), (1, 1))))
+True
+"""),
+    (58, "wholes", r"""
+>>> [gcd_paper(0, 0), gcd_paper(12, -18)[0], lcm_paper(4, -6)[0], takes_gcd(12, 18, (6, -1, 1, 2, 3)), takes_lcm(4, 6, (24, 6, 4, 1, -1))]
+[(0, 0, 0, 0, 0), 6, 12, True, False]
+"""),
+    (59, "primes", r"""
+>>> [number_paper(2), number_paper(5), number_paper(9), takes_number(12, ("split", 3, 4)), takes_number(7, ("prime", (4,)))]
+[('prime', ()), ('prime', (3,)), ('split', 3, 3), True, True]
+>>> [factors_paper(12), divisors_of(12)]
+[((2, 2, ()), (3, 1, ())), (1, 2, 3, 4, 6, 12)]
+"""),
+    (60, "modways", r"""
+>>> [inverse_paper(3, 7), inverse_paper(0, 5), order_paper(2, 7), roots_of(1, 2, 8)]
+[('inverse', 5), ('none', 5, 0, 1), ('order', 3, ((3, 1, ()),)), (1, 3, 5, 7)]
+"""),
+    (61, "remainders", r"""
+>>> [takes_joined(1, 4, 2, 6, ("none", 2, 2, 3)), joined_row_paper(((1, 2), (2, 3), (0, 5)))[:4]]
+[True, ('joined', 5, 30, (15, 10, 6))]
+"""),
+    (62, "backfractions", r"""
+>>> [takes_back(7, 5, 1, 3, ("back", 1, 3, 2)), takes_back(7, 5, 1, 2, ("none", (2, -1, 1), (1, 3, -2))), back_paper(5, 0, 0, 1)]
+[True, True, ('back', 0, 1, 0)]
+"""),
+    (63, "tables", r"""
+>>> [row_by_table(5, ((1, 2), (3, 4)), (1, 1)), table_by_row(5, ((1, 2), (3, 4)), (1, 1)), inverse_table(7, ((2, 1), (1, 1)))]
+[(4, 1), (3, 2), ((1, 6), (6, 2))]
+>>> [reduced_paper(5, ((2, 4, 1), (1, 2, 0)))[0], reduced_paper(3, ((0, 0), (0, 0)))]
+[((1, 2, 0), (0, 0, 1)), ((), (), ((), ()))]
+"""),
+]
+
+
+class Examples(unittest.TestCase):
+    def test_examples(self):
+        names = {}
+        for point, module, text in EXAMPLES:
+            exec("from towerback." + module + " import *", names)
+            test = doctest.DocTestParser().get_doctest(text, names, "point " + str(point), None, None)
+            self.assertTrue(test.examples)
+            told = []
+            result = doctest.DocTestRunner(verbose=False).run(test, out=told.append, clear_globs=False)
+            self.assertEqual(result.failed, 0, "".join(told))
+            names.update(test.globs)
+
+    @unittest.skipUnless(os.path.exists(DOCUMENT), "the document is not here")
+    def test_they_stand_in_the_document(self):
+        with open(DOCUMENT, encoding="utf-8") as file:
+            lines = [line.strip() for line in file]
+        for point, _, text in EXAMPLES:
+            for line in text.strip().split("\n"):
+                self.assertIn(line, lines, point)
+
+
+if __name__ == "__main__":
+    unittest.main()

@@ -1,0 +1,1 @@
+"""Towerback: integrals with a paper for each answer."""
