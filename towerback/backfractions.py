@@ -21,7 +21,7 @@ def rows_at_bound(modulus, number, over):
     behind = (number, 1, 0)
     while behind[0] > over:
         many = row[0] // behind[0]
-        row, behind = behind, tuple(a - many * b for a, b in zip(row, behind))
+        row, behind = behind, tuple([a - many * b for a, b in zip(row, behind)])
     return row, behind
 
 

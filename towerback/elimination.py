@@ -7,7 +7,7 @@ and what stands behind these columns goes along.
 from towerback.nested import nested_constant, nested_exact, nested_minus, nested_times
 from towerback.rawways import inverted, minus, nought_of, times
 from towerback.rawtables import unit_row
-from towerback.wholeforms import is_rootless, line_of_whole, whole_line
+from towerback.wholeforms import has_whole_forms, line_of_whole, whole_line
 
 
 def with_units(field, table):
@@ -32,7 +32,7 @@ def swapped(rows, one, other):
 
 def reduced_rows(field, rows, columns):
     """Return the leading indices and the reduced rows that lead; ByNought if a number has no inverse."""
-    if is_rootless(field):
+    if has_whole_forms(field):
         return whole_reduced(field, [whole_line(field, row)[0] for row in rows], columns)
     leads = []
     for column in range(columns):

@@ -31,7 +31,7 @@ def bezout(one, other):
     behind = (abs(other), 0, 1)
     while behind[0]:
         many = row[0] // behind[0]
-        row, behind = behind, tuple(a - many * b for a, b in zip(row, behind))
+        row, behind = behind, tuple([a - many * b for a, b in zip(row, behind)])
     common, by_one, by_other = row
     return common, -by_one if one < 0 else by_one, -by_other if other < 0 else by_other
 

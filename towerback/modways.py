@@ -92,4 +92,4 @@ def roots_of(number, power, modulus):
     need_integer(power, 1, GREATEST_ROOT)
     need_integer(modulus, 2, GREATEST_FOR_ROOTS)
     rest = number % modulus
-    return tuple(root for root in range(modulus) if power_rest(root, power, modulus) == rest)
+    return tuple([root for root in range(modulus) if power_rest(root, power, modulus) == rest])

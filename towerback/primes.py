@@ -10,7 +10,7 @@ GREATEST_BELOW = 10 ** 4
 
 def inverses_of(prime):
     """Return the inverses, mod a prime, of 2, 3 and so on, up to its root."""
-    return tuple(inverse_rest(divisor, prime) for divisor in range(2, isqrt(prime) + 1))
+    return tuple([inverse_rest(divisor, prime) for divisor in range(2, isqrt(prime) + 1)])
 
 
 def are_inverses(number, value):

@@ -3,7 +3,7 @@
 from towerback.forms import has_number_form, is_given_number
 from towerback.nested import nested_constant, nested_exact, nested_plus, nested_times
 from towerback.rawways import nought_of, one_of, plus, times
-from towerback.wholeforms import common_multiple, is_rootless, line_of_whole, whole_line
+from towerback.wholeforms import common_multiple, has_whole_forms, line_of_whole, whole_line
 
 MOST_ROWS = 40
 MOST_COLUMNS = 40
@@ -66,12 +66,12 @@ def unit_row(field, many, at):
     """Return the row of so many numbers with one at an index and noughts elsewhere."""
     nought = nought_of(field)
     one = one_of(field)
-    return tuple(one if k == at else nought for k in range(many))
+    return tuple([one if k == at else nought for k in range(many)])
 
 
 def rows_product(field, rows, others, many):
     """Return the product of two tuples of rows, the latter of so many numbers."""
-    if is_rootless(field) and others:
+    if has_whole_forms(field) and others:
         return whole_rows_product(field, rows, others)
     return tuple(row_of_sums(field, row, others, many) for row in rows)
 

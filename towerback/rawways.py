@@ -6,7 +6,7 @@ Both stand in one file, as the numbers of ("quot", F) and ("root", F, q) are mad
 from towerback.errors import ByNought
 from towerback.integers import fraction, inverse_rest
 from towerback.modlines import mod_common, mod_divided, mod_inverse, mod_times
-from towerback.wholeforms import is_rootless
+from towerback.wholeforms import has_whole_forms
 from towerback.wholeparts import whole_common, whole_divided, whole_inverse, whole_times
 
 
@@ -190,7 +190,7 @@ def lines_times(field, one, other):
         return ()
     if isinstance(field, int) and field:
         return mod_times(field, one, other)
-    if is_rootless(field):
+    if has_whole_forms(field):
         return whole_times(field, one, other)
     sums = [nought_of(field)] * (len(one) + len(other) - 1)
     for i, a in enumerate(one):
@@ -205,7 +205,7 @@ def lines_divided(field, line, other):
         raise ByNought("a line by the line nought")
     if isinstance(field, int) and field:
         return mod_divided(field, line, other)
-    if is_rootless(field):
+    if has_whole_forms(field):
         return whole_divided(field, line, other)
     by = inverted(field, other[-1])
     rest = list(line)
@@ -241,7 +241,7 @@ def lines_common(field, one, other):
     # A number with roots need not have an inverse: there a short line is looked at, too.
     if min(len(one), len(other)) == 1 and (field == 0 or field[0] == "quot"):
         return (one_of(field),)
-    if is_rootless(field):
+    if has_whole_forms(field):
         return whole_common(field, one, other)
     while other:
         one, other = other, monic_of(field, lines_divided(field, one, other)[1])
@@ -252,7 +252,7 @@ def line_inverse(field, line, modulus):
     """Return the inverse of a shorter line by a modulus; ByNought if it has none."""
     if isinstance(field, int) and field:
         found = mod_inverse(field, line, modulus)
-    elif is_rootless(field):
+    elif has_whole_forms(field):
         found = whole_inverse(field, line, modulus)
     else:
         found = euclid_inverse(field, line, modulus)

@@ -22,7 +22,7 @@ def table_by_row(field, table, row):
     need_table(field, table)
     need_row(field, row, len(table[0]))
     column = tuple((number,) for number in row)
-    return tuple(sums[0] for sums in rows_product(field, table, column, 1))
+    return tuple([sums[0] for sums in rows_product(field, table, column, 1)])
 
 
 def row_by_table(field, table, row):

@@ -9,8 +9,10 @@ from towerback.nested import is_unit, nested_constant, nested_exact, nested_time
 from towerback.nestedcommon import image_point, nested_common
 
 
-def is_rootless(field):
-    """Tell whether a field is built without roots."""
+def has_whole_forms(field):
+    """Tell whether numbers of a field are quotients of nested whole lines: it has no roots, and is no prime."""
+    if isinstance(field, int):
+        return field == 0
     while not isinstance(field, int):
         if field[0] == "root":
             return False

@@ -101,9 +101,9 @@ def shows_gcd_row(row, paper):
     common, multipliers, quotients = paper
     if not are_integers(multipliers, len(row)) or not are_integers(quotients, len(row)):
         return False
-    if sum(number * part for number, part in zip(row, multipliers)) != common:
+    if sum([number * part for number, part in zip(row, multipliers)]) != common:
         return False
-    return all(part * common == number for number, part in zip(row, quotients))
+    return all([part * common == number for number, part in zip(row, quotients)])
 
 
 def takes_gcd_row(row, paper):
