@@ -3,6 +3,7 @@
 import random
 
 from towerback.errors import ByNought, InvalidField, PaperError, TooMany
+from towerback.fieldways import number_of, quotient_of
 
 GREATEST = 10 ** 100
 
@@ -69,28 +70,31 @@ def changed(value):
     return found
 
 
+def trimmed(field, numbers):
+    """Return numbers, without the noughts at their end, as a line."""
+    numbers = list(numbers)
+    while numbers and numbers[-1] == number_of(field, 0, 1):
+        numbers.pop()
+    return tuple(numbers)
+
+
 def random_number(chance, field, most=2):
     """Return some number of a field."""
-    from towerback.rawways import settled, trimmed_line
-    from towerback.integers import fraction
-    if field == 0:
-        return fraction(chance.randint(-6, 6), chance.randint(1, 4))
     if isinstance(field, int):
-        return chance.randrange(field)
+        return chance.randrange(field) if field else number_of(0, chance.randint(-6, 6), chance.randint(1, 4))
     inner = field[1]
     if field[0] == "root":
-        return trimmed_line(inner, [random_number(chance, inner, most) for _ in range(len(field[2]) - 1)])
+        return trimmed(inner, [random_number(chance, inner, most) for _ in range(len(field[2]) - 1)])
     over = random_line(chance, inner, chance.randint(0, most))
     under = ()
     while not under:
         under = random_line(chance, inner, chance.randint(1, most))
-    return settled(inner, over, under)
+    return quotient_of(inner, over, under)
 
 
 def random_line(chance, field, many):
     """Return some line of so many numbers at most."""
-    from towerback.rawways import trimmed_line
-    return trimmed_line(field, [random_number(chance, field, 2) for _ in range(many)])
+    return trimmed(field, [random_number(chance, field) for _ in range(many)])
 
 
 def chances(seed):

@@ -57,6 +57,10 @@ class Backfractions(Asks, unittest.TestCase):
         self.assertTrue(takes_back(7, 5, 9, 9, ("back", -7, 7, 6)))
         self.assertTrue(takes_back(7, 5, 9, 9, ("back", 5, 1, 0)))
         self.assertTrue(takes_back(7, 5, 1, 2, ("none", (2, -1, 1), (1, 3, -2))))
+        self.assertFalse(takes_back(7, 5, 2, 2, ("none", (2, -1, 1), (1, 3, -2))))
+        self.assertFalse(takes_back(7, 5, 1, 3, ("none", (2, -1, 1), (1, 3, -2))))
+        self.assertTrue(takes_back(8, 4, 3, 1, ("none", (4, 1, 0), (0, -2, 1))))
+        self.assertFalse(takes_back(8, 4, 3, 1, ("none", (4, 1, 0), (0, 2, -1))))
         for paper in (("back", 1, 3, 3), ("back", 8, 3, 1), ("back", -1, -3, -2), ("back", 0, 0, 0), ("back", 1, 3), ("back", 1, 10, 7),
                       ("back", True, 3, 2), ["back", 1, 3, 2], ("none", (2, -1, 1), (1, 3, -2))):
             self.assertIs(takes_back(7, 5, 1, 3, paper), False, paper)

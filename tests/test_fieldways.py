@@ -50,6 +50,8 @@ class Fields(Asks, unittest.TestCase):
     def test_root_lines(self):
         good = ((2, 3), (0, 1), (1, 1))
         self.assertTrue(is_field(("root", 0, good)))
+        self.assertFalse(is_field(("root", 0, good, 1)))
+        self.assertFalse(is_field(("root", 0, good, good)))
         for line in ((), ((1, 1),), ((1, 1), (2, 1)), ((2, 4), (1, 1)), list(good), ((1, 1), (1, 1), (0, 1)), (1, 1),
                      ((True, 1), (1, 1)), ((0, 1), (1, True)), None, ((GREATEST + 1, 1), (1, 1)), "ab"):
             self.assertFalse(is_field(("root", 0, line)), line)
@@ -236,6 +238,7 @@ class Numbers(Asks, unittest.TestCase):
             self.refuses_all(InvalidNumber, negative_of, (field,), wrong)
             self.refuses_all(InvalidNumber, inverse_of, (field,), wrong)
             self.refuses_all(InvalidNumber, number_power, (field,), wrong, (None,))
+            self.refuses_all(InvalidNumber, number_power, (field,), wrong, (2,))
             for function in (number_plus, number_minus, number_times):
                 self.refuses_all(InvalidNumber, function, (field,), wrong, (good,))
                 self.refuses_all(InvalidNumber, function, (field, good), wrong)

@@ -3,7 +3,7 @@
 import unittest
 
 from tests.reference import field_for
-from tests.support import FIELDS, GREATEST, R, SPLIT, X, Asks, any_values, chances, random_line, random_number
+from tests.support import FIELDS, GREATEST, R, SPLIT, X, Asks, any_values, chances, random_line, random_number, trimmed
 from towerback import lineways
 from towerback.errors import ByNought, InvalidLine, InvalidNumber
 from towerback.fieldways import is_line, number_of
@@ -128,6 +128,27 @@ class Lines(Asks, unittest.TestCase):
                 function(SPLIT, (low,), (ONE, high, ONE))
             except ByNought:
                 pass
+
+    def test_divisors_with_roots_of_a_line_that_can_be_split(self):
+        """What is told is right with each of both roots, 1 and -1, in the root's place."""
+        for bottom in (0, 5, X):
+            one, nought = number_of(bottom, 1, 1), number_of(bottom, 0, 1)
+            field, told = ("root", bottom, (number_of(bottom, -1, 1), nought, one)), 0
+            chance = chances(6)
+            for turn in range(60):
+                lines = [random_line(chance, field, k) for k in (4, 3, 2)]
+                if turn % 2:
+                    lines = [line_times(field, lines[0], lines[2]), line_times(field, lines[1], lines[2])]
+                try:
+                    common = common_line(field, lines[0], lines[1])
+                except ByNought:
+                    continue
+                told += 1
+                for root in (one, number_of(bottom, -1, 1)):
+                    images = [trimmed(bottom, [line_at(bottom, part, root) for part in line]) for line in lines[:2] + [common]]
+                    self.assertEqual(common_line(bottom, images[0], images[1]), images[2])
+                    self.assertEqual(len(common), len(images[2]))
+            self.assertGreater(told, 5)
 
     def test_lines_at_their_length(self):
         self.assertEqual(len(line_times(0, ((1, 2),) * 61, ((1, 3),) * 61)), 121)

@@ -48,6 +48,8 @@ class Remainders(Asks, unittest.TestCase):
         self.assertFalse(takes_joined(1, 4, 5, 6, ("joined", 17, 12, 4, 2, (12, 3, 2, 1, -1))))
         self.assertFalse(takes_joined(1, 4, 5, 6, ("joined", 5, 24, 1, 0, (24, 6, 4, 1, -1))))
         self.assertFalse(takes_joined(1, 4, 5, 6, ("joined", -7, 12, -2, -2, (12, 3, 2, 1, -1))))
+        self.assertFalse(takes_joined(0, 2, 0, 3, ("joined", 6, 6, 3, 2, (6, 3, 2, 1, -1))))
+        self.assertTrue(takes_joined(0, 2, 0, 3, ("joined", 0, 6, 0, 0, (6, 3, 2, 1, -1))))
         self.assertFalse(takes_joined(0, 1, 0, 1, ("joined", False, 1, 0, 0, (1, 1, 1, 1, 0))))
 
     def check_row(self, pairs):
@@ -91,8 +93,12 @@ class Remainders(Asks, unittest.TestCase):
                       ("none", 2, 1, ("none", 2, 2, 3))):
             self.assertTrue(takes_joined_row(pairs, paper), paper)
         for paper in (("none", 0, 1, ("none", 2, 3, 2)), ("none", 0, 3, ("none", 2, 2, 3)), ("none", -3, 1, ("none", 2, 2, 3)),
+                      ("none", 3, 0, ("none", 2, 2, 3)), ("none", 1, -3, ("none", 2, 3, 2)),
                       ("none", 0, 0, ("none", 4, 1, 1)), ("none", False, True, ("none", 2, 2, 3)), ("none", 0, 1, None)):
             self.assertIs(takes_joined_row(pairs, paper), False, paper)
+        zero = ((0, 2), (0, 3))
+        self.assertTrue(takes_joined_row(zero, ("joined", 0, 6, (3, 2), (1, (1, -1), (3, 2)))))
+        self.assertFalse(takes_joined_row(zero, ("joined", 6, 6, (3, 2), (1, (1, -1), (3, 2)))))
         good = ((1, 2), (2, 3))
         self.assertTrue(takes_joined_row(good, ("joined", 5, 6, (3, 2), (1, (1, -1), (3, 2)))))
         self.assertTrue(takes_joined_row(good, ("joined", 5, 6, (3, 2), (1, (-1, 2), (3, 2)))))

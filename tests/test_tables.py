@@ -63,17 +63,22 @@ class Tables(Asks, unittest.TestCase):
 
     def test_inverses(self):
         for seed, field in enumerate(FIELDS):
-            chance, found = chances(seed), 0
-            for many in (1, 1, 1, 1, 2, 2, 2, 3):
+            chance = chances(seed)
+            for many in (1, 2, 3):
+                ones = units(field, many)
                 table = random_table(chance, field, many, many)
+                low = [table[i][:i] + ones[i][i:] for i in range(many)]
+                high = [ones[i][:i + 1] + table[i][i + 1:] for i in range(many)]
+                square = plain_product(field, low[::-1], high)
+                inverse = inverse_table(field, square)
+                self.assertEqual(plain_product(field, inverse, square), ones)
+                self.assertEqual(plain_product(field, square, inverse), ones)
                 inverse = inverse_table(field, table)
                 if inverse is None:
                     self.assertLess(len(reduced_paper(field, table)[0]), many)
                 else:
-                    found += 1
-                    self.assertEqual(plain_product(field, inverse, table), units(field, many))
-                    self.assertEqual(plain_product(field, table, inverse), units(field, many))
-            self.assertTrue(found)
+                    self.assertEqual(plain_product(field, inverse, table), ones)
+            self.assertIsNone(inverse_table(field, square[:2] + square[1:2]))
         self.assertEqual(inverse_table(7, ((2, 1), (1, 1))), ((1, 6), (6, 2)))
         self.assertIsNone(inverse_table(5, ((1, 2), (2, 4))))
         self.assertIsNone(inverse_table(0, (((0, 1),),)))
@@ -135,6 +140,10 @@ class Tables(Asks, unittest.TestCase):
             self.assertIs(takes_reduced(5, table, paper), False, paper)
         self.judges(takes_reduced, (5, table[:2] + ((1, 0),)), reduced_paper(5, table[:2] + ((1, 0),)))
         whole = ((1, 3), (2, 2))
+        self.assertFalse(takes_reduced(5, whole, (((1, 3), (0, 1)), ((1, 0), (3, 1)), ((1, 0), (2, 1)))))
+        self.assertTrue(takes_reduced(5, units(5, 2), (units(5, 2),) * 3))
+        self.assertFalse(takes_reduced(5, units(5, 2), (((0, 1), (1, 0)),) * 3))
+        self.assertFalse(takes_reduced(5, ((1, 2), (0, 0)), (((1, 2), (0, 0)), units(5, 2), units(5, 2))))
         for paper in (((((0, 1), (1, 1))), ((0, 3), (1, 2)), ((3, 1), (2, 2))), (((1, 0), (0, 1)), (), ()), (((1, 3), (0, 1)), ((1, 0), (0, 1)), whole)):
             self.assertIs(takes_reduced(5, whole, paper), False)
 

@@ -16,11 +16,11 @@ def bottom_of(ring):
     return ring
 
 
-def image_point(ring, turn, prime):
-    """Return the number that stands for the unknown of a ring in the images of a turn."""
+def image_point(field, turn, prime):
+    """Return the number that stands for the unknown of the lines over a field in the images of a turn."""
     depth = 1
-    while not isinstance(ring[1], int):
-        ring = ring[1]
+    while not isinstance(field, int):
+        field = field[1]
         depth += 1
         turn //= prime
     return 7368787 * depth * depth + turn
@@ -30,7 +30,7 @@ def nested_image(ring, value, turn, prime):
     """Return the image of a nested line mod a prime."""
     if isinstance(ring, int):
         return value % prime
-    point = image_point(ring, turn, prime)
+    point = image_point(ring[1], turn, prime)
     found = 0
     for part in reversed(value):
         found = (found * point + nested_image(ring[1], part, turn, prime)) % prime

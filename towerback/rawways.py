@@ -6,6 +6,7 @@ Both stand in one file, as the numbers of ("quot", F) and ("root", F, q) are mad
 from towerback.errors import ByNought
 from towerback.integers import fraction, inverse_rest
 from towerback.modlines import mod_common, mod_divided, mod_inverse, mod_times
+from towerback.nestedcommon import IMAGE_PRIME, TRIES, bottom_of, image_point
 from towerback.wholeforms import has_whole_forms
 from towerback.wholeparts import whole_common, whole_divided, whole_inverse, whole_times
 
@@ -243,6 +244,28 @@ def lines_common(field, one, other):
         return (one_of(field),)
     if has_whole_forms(field):
         return whole_common(field, one, other)
+    shared = min(first_index(field, one), first_index(field, other))
+    found = lowered_common(field, one[shared:], other[shared:])
+    return (nought_of(field),) * shared + found
+
+
+def first_index(field, line):
+    """Return the index of the first number that is not nought, of a line that is not nought."""
+    index = 0
+    while line[index] == nought_of(field):
+        index += 1
+    return index
+
+
+def lowered_common(field, one, other):
+    """Return the monic greatest common divisor of two lines that the unknown does not divide both."""
+    if min(len(one), len(other)) > 2 and are_apart_by_images(field, one, other):
+        return (one_of(field),)
+    return euclid_common(field, one, other)
+
+
+def euclid_common(field, one, other):
+    """Return the monic greatest common divisor of two lines, not both nought, by Euclid's way."""
     while other:
         one, other = other, monic_of(field, lines_divided(field, one, other)[1])
     return monic_of(field, one)
@@ -270,3 +293,54 @@ def euclid_inverse(field, line, modulus):
     if not behind[0]:
         return None
     return line_scaled(field, behind[1], inverted(field, behind[0][0]))
+
+
+def image_field(field, turn, prime):
+    """Return the field to which a field is led when numbers stand for the unknowns of its quotients."""
+    if isinstance(field, int):
+        return prime
+    inner = image_field(field[1], turn, prime)
+    if field[0] == "quot":
+        return inner
+    return "root", inner, tuple(number_image(field[1], inner, part, turn, prime) for part in field[2])
+
+
+def number_image(field, target, number, turn, prime):
+    """Return the image, in the field to which its field is led, of a number; ByNought if it has none."""
+    if isinstance(field, int):
+        return number if field else constant_of(prime, number[0], number[1])
+    if field[0] == "root":
+        return trimmed_line(target[1], [number_image(field[1], target[1], part, turn, prime) for part in number])
+    over = line_image(field[1], target, number[0], turn, prime)
+    return times(target, over, inverted(target, line_image(field[1], target, number[1], turn, prime)))
+
+
+def line_image(field, target, line, turn, prime):
+    """Return the image of the value of a line at the number that stands for its unknown."""
+    point = constant_of(target, image_point(field, turn, prime), 1)
+    found = nought_of(target)
+    for part in reversed(line):
+        found = plus(target, times(target, found, point), number_image(field, target, part, turn, prime))
+    return found
+
+
+def are_apart_by_images(field, one, other):
+    """Tell whether images, in a field that is led to, show that two lines are apart.
+
+    Where the last number of one keeps an inverse, a common divisor would have an image of its degree.
+    """
+    bottom = bottom_of(field)
+    prime = bottom or IMAGE_PRIME
+    for turn in range(TRIES if bottom else 1):
+        try:
+            target = image_field(field, turn, prime)
+            if target == field:
+                return False
+            images = tuple(number_image(field, target, part, turn, prime) for part in one)
+            others = tuple(number_image(field, target, part, turn, prime) for part in other)
+            images = monic_of(target, images)
+            if len(euclid_common(target, images, trimmed_line(target, others))) == 1:
+                return True
+        except ByNought:
+            continue
+    return False

@@ -89,7 +89,7 @@ def number_image(field, number, turn, prime):
 
 def line_image(field, line, turn, prime):
     """Return the image of the value of a line at the point of its unknown, or None if it has none."""
-    point = image_point(("quot", field), turn, prime)
+    point = image_point(field, turn, prime)
     found = 0
     for part in reversed(line):
         image = number_image(field, part, turn, prime)

@@ -17,6 +17,8 @@ def whole_times(field, one, other):
 
 def whole_divided(field, line, other):
     """Return the quotient and the rest of a line by another one that is not nought."""
+    if len(line) < len(other):
+        return (), line
     above, by_above = whole_line(field, line)
     beside, by_beside = whole_line(field, other)
     rest = list(above)
