@@ -150,6 +150,39 @@ class Lines(Asks, unittest.TestCase):
                     self.assertEqual(len(common), len(images[2]))
             self.assertGreater(told, 5)
 
+    def test_divisors_that_numbers_in_the_place_of_unknowns_do_not_show(self):
+        """A divisor whose last number is nought wherever an unknown is a number of the prime field."""
+        great = 2 ** 61 - 1
+        for field, number in ((0, number_of(0, great, 1)), (0, number_of(0, 1, great)), (("quot", 2), ((0, 1, 1), (1,))),
+                              (("quot", 2), ((1,), (0, 1, 1))), (("quot", ("quot", 2)), ((((0, 1, 1), (1,)),), (((1,), (1,)),))),
+                              (("quot", ("quot", 2)), ((((1,), (0, 1, 1)),), (((1,), (1,)),))),
+                              (("quot", ("quot", 2)), ((((1,), (1,)),), (((1,), (0, 1, 1)), ((1,), (1,))))),
+                              (("root", ("quot", 2), (((1,), (1,)),) * 3), (((0, 1, 1), (1,)),)),
+                              (("root", ("quot", 2), (((1,), (1,)),) * 3), (((1,), (0, 1, 1)),))):
+            one = number_of(field, 1, 1)
+            more = [(one, one), (one, one, one), (one, one, one, one)]
+            for divisor in ((one, number), (number, one), (one, one, number), (one, number, one)):
+                for first in more:
+                    for second in more:
+                        common = line_times(field, divisor, common_line(field, first, second))
+                        told = common_line(field, line_times(field, divisor, first), line_times(field, divisor, second))
+                        self.assertEqual(told, monic_line(field, common))
+
+    def test_divisors_of_longer_lines(self):
+        chance = chances(9)
+        for field in (0, X, ("quot", X), 5, ("quot", 5)):
+            for many in (2, 3, 4):
+                divisor, one, other = (random_line(chance, field, many) for _ in range(3))
+                if not divisor:
+                    continue
+                one, other = line_times(field, divisor, one), line_times(field, divisor, other)
+                common = common_line(field, one, other)
+                self.assertTrue(does_divide(field, divisor, common))
+                self.assertTrue(does_divide(field, common, one) and does_divide(field, common, other))
+                if common:
+                    left = [divided_lines(field, line, common)[0] for line in (one, other)]
+                    self.assertEqual(common_line(field, *left), (number_of(field, 1, 1),))
+
     def test_lines_at_their_length(self):
         self.assertEqual(len(line_times(0, ((1, 2),) * 61, ((1, 3),) * 61)), 121)
         self.refused(InvalidLine, line_times, 0, ((1, 2),) * 62, ONE)
