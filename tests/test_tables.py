@@ -176,6 +176,7 @@ class Tables(Asks, unittest.TestCase):
                     self.assertEqual(times_table(SPLIT, told, table), units(SPLIT, len(table)))
         self.assertEqual(inverse_table(SPLIT, (((), ONE), (ONE, low))), ((((1, 1), (-1, 1)), ONE), (ONE, ())))
         self.assertTrue(takes_reduced(SPLIT, ((ONE, low),), (((ONE, low),), ((ONE,),), ((ONE,),))))
+        self.judges(takes_reduced, (SPLIT, ((ONE, ((2, 1),)),)), (((ONE, ((2, 1),)),), ((ONE,),), ((ONE,),)))
 
     def test_limits(self):
         row = (1,) * 40

@@ -3,7 +3,7 @@
 from math import gcd, isqrt
 from towerback.modlines import mod_common, trimmed
 from towerback.nested import is_unit, nested_at, nested_constant, nested_content, nested_digits, nested_exact
-from towerback.nested import nested_height, nested_minus, nested_scaled, nested_shared, nested_times
+from towerback.nested import nested_height, nested_scaled, nested_shared, nested_times
 
 IMAGE_PRIME = 2 ** 61 - 1
 TRIES = 12
@@ -75,24 +75,39 @@ def primitive_of_nested(ring, line):
     return nested_exact(ring, line, (common,))
 
 
-def nested_rest(ring, line, other):
-    """Return the rest, times something without the outer unknown, of a nested line by another one."""
-    while len(line) >= len(other):
-        shift = (nested_constant(ring[1], 0),) * (len(line) - len(other))
-        common = nested_common(ring[1], line[-1], other[-1])
-        one = nested_times(ring, line, (nested_exact(ring[1], other[-1], common),))
-        line = nested_minus(ring, one, nested_times(ring, other, shift + (nested_exact(ring[1], line[-1], common),)))
-    return line
+def widest_of(line):
+    """Return how many items the longest item of a nested line has."""
+    return max([len(part) for part in line])
 
 
-def common_by_rests(ring, one, other):
-    """Return a greatest common divisor of two primitive lines, by Euclid's way."""
-    while len(other) > 1:
-        rest = nested_rest(ring, one, other)
-        if not rest:
-            return other
-        one, other = other, primitive_of_nested(ring, rest)
-    return nested_constant(ring, 1)
+def joined_items(ring, line, place):
+    """Return the value of a nested line at a power, above all in it, of the next unknown."""
+    nought = nested_constant(ring[1][1], 0)
+    joined = []
+    for part in line:
+        joined.extend(part)
+        joined.extend([nought] * (place - len(part)))
+    return trimmed(joined)
+
+
+def split_items(value, place):
+    """Return the nested line that has a value at the power of the next unknown with this exponent."""
+    return tuple([trimmed(value[first:first + place]) for first in range(0, len(value), place)])
+
+
+def common_by_places(ring, one, other):
+    """Return a greatest common divisor of two primitive lines, built of a prime, in two unknowns or more.
+
+    A divisor that is told by values at a power of the next unknown that is above all in both, and divides
+    both, is the greatest; for all great powers it is found.
+    """
+    place = max(widest_of(one), widest_of(other)) + 1
+    while True:
+        value = nested_common(ring[1], joined_items(ring, one, place), joined_items(ring, other, place))
+        found = primitive_of_nested(ring, split_items(value, place))
+        if nested_exact(ring, one, found) is not None and nested_exact(ring, other, found) is not None:
+            return found
+        place += place // 2 + 1
 
 
 def common_by_values(ring, one, other):
@@ -123,7 +138,7 @@ def nested_common(ring, one, other):
         return mod_common(ring[1], one, other)
     if bottom_of(ring):
         common = (common_of_all(ring[1], one + other),)
-        found = common_by_rests(ring, primitive_of_nested(ring, one), primitive_of_nested(ring, other))
+        found = common_by_places(ring, primitive_of_nested(ring, one), primitive_of_nested(ring, other))
         return nested_times(ring, found, common)
     contents = nested_content(ring, one), nested_content(ring, other)
     found = common_by_values(ring, nested_shared(ring, one, contents[0]), nested_shared(ring, other, contents[1]))
