@@ -168,6 +168,23 @@ class Lines(Asks, unittest.TestCase):
                         told = common_line(field, line_times(field, divisor, first), line_times(field, divisor, second))
                         self.assertEqual(told, monic_line(field, common))
 
+    def test_divisors_that_the_first_values_do_not_tell(self):
+        """Lines whose values at the first point have more in common than the lines."""
+        one, x = (1,), (0, 1)
+        whole = [((-6, 13, -9, 2), (0, -3, -1, 2)), ((-9, 15, -12, 4), (-3, 5, 4, -4)), ((-9, 9, 1, -1), (3, 8, -3)),
+                 ((0, -2, 3, -3), (0, -3, 2, 1)), ((-3, 3, -1, 1), (-1, 2, 1, -2))]
+        pairs = [(0, *(tuple((number, 1) for number in line) for line in pair)) for pair in whole]
+        mod = [(((), (0, 0, 1), one, (1, 0, 1)), ((), (0, 1, 1), one, one)),
+               (((0, 0, 1, 1), (1, 0, 1), (1, 0, 1, 0, 1), (1, 0, 1, 0, 1)), ((0, 0, 0, 0, 1), (0, 0, 0, 1, 1), (1, 1, 0, 0, 1), (1, 1, 0, 1, 1))),
+               (((0, 1, 1), (1, 1, 0, 1), (0, 1, 1, 1), (0, 0, 0, 1, 1)), ((1, 1), (0, 0, 1), (1, 1), (0, 0, 1))),
+               (((), x, one), ((), (0, 1, 1), x, one))]
+        pairs += [(("quot", 2), *(tuple((part, one) for part in line) for line in pair)) for pair in mod]
+        for value, first, second in pairs:
+            lines = Lines_of(field_for(value))
+            told = lines.told(lines.common(lines.read(first), lines.read(second)))
+            self.assertEqual(common_line(value, first, second), told)
+            self.assertEqual(common_line(value, second, first), told)
+
     def test_divisors_of_longer_lines(self):
         chance = chances(9)
         for field in (0, X, ("quot", X), 5, ("quot", 5)):
