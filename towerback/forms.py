@@ -82,6 +82,16 @@ def has_line_form(field, value):
     return value == () or value[-1] != nought_of(field)
 
 
+def are_lines(field, value, many):
+    """Tell whether any value is a tuple of so many lines over a field, of any size."""
+    return isinstance(value, tuple) and len(value) == many and all(has_line_form(field, part) for part in value)
+
+
+def is_monic(field, line):
+    """Tell whether a line is monic, and of degree 1 or more."""
+    return len(line) > 1 and line[-1] == one_of(field)
+
+
 def are_apart(field, one, other):
     """Tell whether two lines, not both nought, have no common divisor of degree 1 or more."""
     try:

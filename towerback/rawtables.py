@@ -2,7 +2,7 @@
 
 from towerback.forms import has_number_form, is_given_number
 from towerback.nested import nested_constant, nested_exact, nested_plus, nested_times
-from towerback.rawways import nought_of, one_of, plus, times
+from towerback.rawways import negated, nought_of, one_of, plus, times
 from towerback.wholeforms import common_multiple, has_whole_forms, line_of_whole, whole_line
 
 MOST_ROWS = 40
@@ -107,3 +107,32 @@ def whole_sums(field, row, wholes):
         if part:
             sums = [nested_plus(field, total, nested_times(field, part, by)) for total, by in zip(sums, other)]
     return sums
+
+
+def kernel_rows(field, leads, reduced, columns):
+    """Return the tuple of the rows, one for each free column, by each of which reduced rows come to noughts alone."""
+    rows = []
+    for free in range(columns):
+        if free not in leads:
+            row = list(unit_row(field, columns, free))
+            for lead, other in zip(leads, reduced):
+                row[lead] = negated(field, other[free])
+            rows.append(tuple(row))
+    return tuple(rows)
+
+
+def shows_reduced(field, table, paper):
+    """Tell whether any value is a paper of the reduced rows of a table."""
+    if not isinstance(paper, tuple) or len(paper) != 3:
+        return False
+    columns = len(table[0])
+    reduced, forth, back = paper
+    if not are_rows(field, reduced, columns) or not are_reduced(field, reduced):
+        return False
+    if not are_rows(field, forth, len(table)) or not are_rows(field, back, len(reduced)):
+        return False
+    if len(forth) != len(reduced) or len(back) != len(table):
+        return False
+    if rows_product(field, forth, table, columns) != reduced:
+        return False
+    return rows_product(field, back, reduced, columns) == table

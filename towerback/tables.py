@@ -3,7 +3,7 @@
 from towerback.elimination import reduced_rows, with_units
 from towerback.errors import InvalidTable
 from towerback.needs import need_field, need_row, need_square, need_table
-from towerback.rawtables import are_reduced, are_rows, picked, rows_product
+from towerback.rawtables import picked, rows_product, shows_reduced
 
 
 def times_table(field, one, other):
@@ -59,16 +59,4 @@ def takes_reduced(field, table, paper):
     """Tell whether any value is a paper of the reduced rows of a table."""
     need_field(field)
     need_table(field, table)
-    if not isinstance(paper, tuple) or len(paper) != 3:
-        return False
-    columns = len(table[0])
-    reduced, forth, back = paper
-    if not are_rows(field, reduced, columns) or not are_reduced(field, reduced):
-        return False
-    if not are_rows(field, forth, len(table)) or not are_rows(field, back, len(reduced)):
-        return False
-    if len(forth) != len(reduced) or len(back) != len(table):
-        return False
-    if rows_product(field, forth, table, columns) != reduced:
-        return False
-    return rows_product(field, back, reduced, columns) == table
+    return shows_reduced(field, table, paper)
