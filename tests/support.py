@@ -1,9 +1,11 @@
 """What the tests share: any values, spoilt papers, fields, and ways to ask for errors."""
 
+import itertools
 import random
 
 from towerback.errors import ByNought, InvalidField, PaperError, TooMany
 from towerback.fieldways import number_of, quotient_of
+from towerback.lineways import line_times
 
 GREATEST = 10 ** 100
 
@@ -20,6 +22,11 @@ FIELDS = [
     ("root", 0, ((3, 1), (1, 1))),
 ]
 SPLIT = ("root", 0, ((-1, 1), (0, 1), (1, 1)))
+# Fields with a line that can be split, into two lines or into one twice.
+SPLITS = [
+    SPLIT, ("root", 0, ((1, 1), (-2, 1), (1, 1))), ("root", 5, (4, 0, 1)), ("root", 2, (1, 0, 1)), ("root", 3, (0, 2, 0, 1)),
+    ("root", X, ((((-1, 1),), ((1, 1),)), ((), ((1, 1),)), (((1, 1),), ((1, 1),)))),
+]
 
 
 def deep_value(many):
@@ -95,6 +102,37 @@ def random_number(chance, field, most=2):
 def random_line(chance, field, many):
     """Return some line of so many numbers at most."""
     return trimmed(field, [random_number(chance, field) for _ in range(many)])
+
+
+def all_rows(prime, many):
+    """Return all rows of so many numbers of a prime field."""
+    return [tuple(row) for row in itertools.product(range(prime), repeat=many)]
+
+
+def all_lines(prime, many):
+    """Return all lines over a prime field of so many numbers at most, shorter ones first."""
+    found = [()]
+    for length in range(1, many + 1):
+        found.extend(row for row in all_rows(prime, length) if row[-1])
+    return found
+
+
+def monic_lines(prime, degree):
+    """Return all monic lines over a prime field of a degree."""
+    return [row + (1,) for row in all_rows(prime, degree)]
+
+
+def unsplit_lines(prime, most):
+    """Return all monic lines over a prime field, of degree 1 up to the most, that are not products of two such lines."""
+    found = []
+    for degree in range(1, most + 1):
+        products = set()
+        for part in found:
+            if 2 * len(part) - 2 <= degree:
+                for other in monic_lines(prime, degree - len(part) + 1):
+                    products.add(line_times(prime, part, other))
+        found.extend(line for line in monic_lines(prime, degree) if line not in products)
+    return found
 
 
 def chances(seed):

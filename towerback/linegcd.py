@@ -5,6 +5,7 @@ from towerback.errors import InvalidBase
 from towerback.forms import are_lines
 from towerback.needs import need_line, need_two_lines
 from towerback.rawways import inverted, line_scaled, lines_divided, lines_minus, lines_plus, lines_times, one_of, times
+from towerback.wholeforms import has_whole_forms, may_be_sum
 
 
 def scaled_row(field, row):
@@ -72,12 +73,16 @@ def shows_common(field, one, other, value):
         return False
     if lines_times(field, above, common) != one or lines_times(field, beside, common) != other:
         return False
-    return sum_of_products(field, (first, one), (second, other)) == common
+    return come_to(field, (first, one), (second, other), common)
 
 
-def sum_of_products(field, first, second):
-    """Return the sum of the products of two pairs of lines."""
-    return lines_plus(field, lines_times(field, first[0], first[1]), lines_times(field, second[0], second[1]))
+def come_to(field, first, second, wished):
+    """Tell whether the products of two pairs of lines come to a line."""
+    # Great lines that come to something else are refused by numbers in the unknowns' place.
+    if has_whole_forms(field) and not may_be_sum(field, (first, second), wished):
+        return False
+    found = lines_plus(field, lines_times(field, first[0], first[1]), lines_times(field, second[0], second[1]))
+    return found == wished
 
 
 def pair_for(field, one, other, wished):

@@ -4,7 +4,7 @@ from towerback.chains import apart_times, common_rows
 from towerback.errors import ByNought, InvalidBase, InvalidParts, TooMany
 from towerback.forms import are_lines, has_line_form, is_given_line, is_monic
 from towerback.integers import are_integers, is_integer_in, is_tagged
-from towerback.linegcd import shows_common, sum_of_products
+from towerback.linegcd import come_to, shows_common
 from towerback.needs import need_field, need_line, need_two_lines
 from towerback.rawlines import lines_power
 from towerback.rawways import line_inverse, lines_common, lines_divided, lines_minus, lines_plus, lines_times, one_of
@@ -181,7 +181,7 @@ def is_partials_paper(field, over, parts, value):
     for (i, j), lines in zip(pairs, value[3]):
         if not are_lines(field, lines, 2):
             return False
-        if sum_of_products(field, (lines[0], parts[i][0]), (lines[1], parts[j][0])) != (one_of(field),):
+        if not come_to(field, (lines[0], parts[i][0]), (lines[1], parts[j][0]), (one_of(field),)):
             return False
     return True
 

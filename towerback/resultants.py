@@ -2,7 +2,7 @@
 
 from towerback.chains import rests_of, ring_form, ring_one, sorted_chain, subresultant_under, told_line, told_times
 from towerback.forms import are_lines, has_number_form
-from towerback.linegcd import sum_of_products
+from towerback.linegcd import come_to
 from towerback.needs import need_two_filled
 from towerback.rawways import inverted, line_negated, lines_divided, lines_exact, nought_of, one_of
 
@@ -87,7 +87,7 @@ def is_resultant_paper(field, one, other, value):
     if len(first) > max(1, len(other) - 1) or len(second) > max(1, len(one) - 1) or not (first or second):
         return False
     line = () if number == nought_of(field) else (number,)
-    if sum_of_products(field, (first, one), (second, other)) != line:
+    if not come_to(field, (first, one), (second, other), line):
         return False
     above, beside, chain = forms_and_chain(field, one, other, ())
     if resultant_line(field, above, beside, chain) != line:

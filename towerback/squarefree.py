@@ -4,7 +4,7 @@ from towerback.chains import common_rows
 from towerback.errors import UnfitField
 from towerback.forms import are_lines, has_line_form, has_number_form, is_monic
 from towerback.integers import is_integer_in
-from towerback.linegcd import sum_of_products
+from towerback.linegcd import come_to
 from towerback.needs import need_field, need_filled_line, need_line
 from towerback.nestedcommon import bottom_of
 from towerback.rawlines import line_slope, lines_power
@@ -136,4 +136,4 @@ def shows_squarefree(field, line, value):
     if number == nought_of(field) or product != line:
         return False
     radical = product_of_parts(field, parts)
-    return sum_of_products(field, (first, radical), (second, line_slope(field, radical))) == (one_of(field),)
+    return come_to(field, (first, radical), (second, line_slope(field, radical)), (one_of(field),))

@@ -4,7 +4,7 @@ from towerback.chains import ring_form, ring_one, sorted_chain, subresultant_und
 from towerback.errors import InvalidIndex, TooMany
 from towerback.forms import are_lines
 from towerback.integers import is_integer_in
-from towerback.linegcd import sum_of_products
+from towerback.linegcd import come_to
 from towerback.needs import need_two_filled
 from towerback.rawways import nought_of
 
@@ -72,7 +72,7 @@ def is_subresultant_row(field, one, other, index, value):
     line, first, second = value
     if len(first) > max(1, len(other) - 1 - index) or len(second) > max(1, len(one) - 1 - index):
         return False
-    if sum_of_products(field, (first, one), (second, other)) != line:
+    if not come_to(field, (first, one), (second, other), line):
         return False
     return subresultant_line(field, one, other, index) == line
 

@@ -6,7 +6,7 @@ a thing of the ring of ("quot", field) by one of the field's ring.
 
 from towerback.integers import fraction, inverse_rest
 from towerback.nested import is_unit, nested_constant, nested_exact, nested_times
-from towerback.nestedcommon import image_point, nested_common
+from towerback.nestedcommon import IMAGE_PRIME, bottom_of, image_point, nested_common
 
 
 def has_whole_forms(field):
@@ -102,3 +102,16 @@ def line_image(field, line, turn, prime):
 def line_images(field, line, turn, prime):
     """Return the list of the images of the numbers of a line, None for one that has none."""
     return [number_image(field, part, turn, prime) for part in line]
+
+
+def may_be_sum(field, pairs, wished):
+    """Tell whether images leave it open that the products of pairs of lines come to a line."""
+    prime = bottom_of(field) or IMAGE_PRIME
+    found = 0
+    for one, other in pairs:
+        image, by_image = line_image(field, one, 0, prime), line_image(field, other, 0, prime)
+        if image is None or by_image is None:
+            return True
+        found += image * by_image
+    image = line_image(field, wished, 0, prime)
+    return image is None or (found - image) % prime == 0
