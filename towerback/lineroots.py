@@ -7,7 +7,7 @@ from towerback.modlines import mod_common, mod_plus, trimmed
 from towerback.needs import HIGHEST_DEGREE, need_field, need_filled_line
 from towerback.rawlines import line_value, rest_power
 from towerback.rawways import lines_divided
-from towerback.squarefree import product_of_parts, shows_squarefree, squarefree_of
+from towerback.squarefree import product_of_parts, shows_squarefree, split_line, squarefree_of
 
 GREATEST_PRIME = 200000
 
@@ -25,13 +25,20 @@ def need_rooted(field, line):
 def roots_of(field, line):
     """Return the tuple of the pairs (root, times) of a line, by ascending value of the roots."""
     need_rooted(field, line)
-    return mod_roots(field, line) if field else judged_paper(paper_of(line))
+    if field:
+        return mod_roots(field, line)
+    parts = split_line(0, line)[1]
+    prime, _, lifts = lifts_of(parts)
+    return told_roots(parts, prime, lifts)
 
 
 def roots_paper(field, line):
     """Return the paper of the roots of a line."""
     need_rooted(field, line)
-    return () if field else paper_of(line)
+    if field:
+        return ()
+    paper = squarefree_of(0, line)
+    return (paper,) + lifts_of(paper[1])
 
 
 def judged_roots(field, line, value):
@@ -39,7 +46,7 @@ def judged_roots(field, line, value):
     need_rooted(field, line)
     if field:
         return mod_roots(field, line) if value == () else None
-    return judged_paper(value) if shows_roots(line, value) else None
+    return told_roots(value[0][1], value[1], value[3]) if shows_roots(line, value) else None
 
 
 def slope_of_whole(line):
@@ -154,14 +161,13 @@ def lifted_root(whole, root, prime, power):
     return root
 
 
-def paper_of(line):
-    """Return the paper of the roots of a line over the fractions."""
-    paper = squarefree_of(0, line)
-    whole = cleared_radical(product_of_parts(0, paper[1]))[1]
+def lifts_of(parts):
+    """Return the triple (prime, exponent, lifts) for the square-free parts of a line over the fractions."""
+    whole = cleared_radical(product_of_parts(0, parts))[1]
     prime = least_fit_prime(whole)
     exponent, power = least_power(prime, whole)
     roots = numbers_at_nought(prime, mod_of_whole(prime, whole))
-    return paper, prime, exponent, tuple([lifted_root(whole, root, prime, power) for root in roots])
+    return prime, exponent, tuple([lifted_root(whole, root, prime, power) for root in roots])
 
 
 def shows_roots(line, value):
@@ -193,9 +199,8 @@ def are_lifts(whole, prime, power, value):
     return True
 
 
-def judged_paper(paper):
-    """Return the tuple of the pairs (root, times) of a line from a paper of its roots."""
-    (_, parts, _, _), prime, _, lifts = paper
+def told_roots(parts, prime, lifts):
+    """Return the tuple of the pairs (root, times) of a line, from its square-free parts and the lifts mod a prime."""
     scale, whole = cleared_radical(product_of_parts(0, parts))
     power = least_power(prime, whole)[1]
     near = [lift - power if 2 * lift > power else lift for lift in lifts]
