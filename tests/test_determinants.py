@@ -204,8 +204,8 @@ class Determinants(Asks, unittest.TestCase):
         self.assertIs(type(whole_determinant(((0,),))), int)
 
     def test_wrong_whole_tables(self):
-        wrong = [value for value in any_values()] + [
-            units_of(9), ((10 ** 6 + 1,),), ((-10 ** 6 - 1,),), ((1, 2),), ((1,), (2,)), ((1, 2), (3,)), [(1,)], ([1],),
+        wrong = any_values() + [
+            (), units_of(9), ((10 ** 6 + 1,),), ((-10 ** 6 - 1,),), ((1, 2),), ((1,), (2,)), ((1, 2), (3,)), [(1,)], ([1],),
             ((True,),), ((1, 2), (3, None)), ((1, 2), (3, (1, 1))), ((1, 2), [3, 4]), (1,), ((),), (((1, 1),),),
         ]
         self.refuses_all(InvalidTable, whole_determinant, (), wrong)
@@ -214,7 +214,7 @@ class Determinants(Asks, unittest.TestCase):
 
     def test_wrong_tables(self):
         wrong = any_values() + [
-            ((1, 2),), ((1,), (2,)), ((),), ((), ()), units(5, 13), ((5,),), ((True,),), [(1,)], ([1],), ((1, 2), (3,)), ((1, 2), (3, -1)),
+            (), ((1, 2),), ((1,), (2,)), ((),), ((), ()), units(5, 13), ((5,),), ((True,),), [(1,)], ([1],), ((1, 2), (3,)), ((1, 2), (3, -1)),
         ]
         for function in (determinant_of, determinant_paper):
             self.refuses_all(InvalidTable, function, (5,), wrong)

@@ -1,6 +1,6 @@
 """Greatest common divisors of lines by Euclid's way, with papers; inverses by lines, least multiples."""
 
-from towerback.chains import common_rows, told_line, ring_form, ring_one, sorted_chain, told_times
+from towerback.chains import common_rows, ring_form, ring_one, sorted_chain, told_line, told_times
 from towerback.errors import InvalidBase
 from towerback.forms import are_lines
 from towerback.needs import need_line, need_two_lines
