@@ -216,6 +216,7 @@ class Language(unittest.TestCase):
                         self.assertIsInstance(node.parent, ast.Call, node.lineno)
                         self.assertIn(node.parent.func.id, TAKERS)
                         self.assertEqual(len(node.parent.args), 1)
+                        self.assertFalse(any(isinstance(part.iter, ast.Call) for part in node.generators), node.lineno)
                         inner = [part for part in ast.walk(node.elt) if isinstance(part, (ast.GeneratorExp, ast.ListComp))]
                         self.assertEqual(inner, [])
                     if isinstance(node, ast.Call) and isinstance(node.func, ast.Name) and node.func.id in VIEWS:

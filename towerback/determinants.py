@@ -78,7 +78,7 @@ def is_low(field, value, many):
     if not are_rows(field, value, many) or len(value) != many:
         return False
     ending = (one_of(field),) + (nought_of(field),) * (many - 1)
-    return all(row[at:] == ending[:many - at] for at, row in enumerate(value))
+    return all([row[at:] == ending[:many - at] for at, row in enumerate(value)])
 
 
 def is_high(field, value, many):
@@ -86,7 +86,7 @@ def is_high(field, value, many):
     if not are_rows(field, value, many) or len(value) != many:
         return False
     nought = nought_of(field)
-    return all(row[:at] == (nought,) * at and row[at] != nought for at, row in enumerate(value))
+    return all([row[:at] == (nought,) * at and row[at] != nought for at, row in enumerate(value)])
 
 
 def is_whole_table(value):

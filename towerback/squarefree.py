@@ -26,7 +26,7 @@ def need_fit_line(field, line):
 
 def root_of_power(prime, line):
     """Return the line over a prime field whose power by the prime a line is, or None."""
-    if any(number for at, number in enumerate(line) if at % prime):
+    if any([number for at, number in enumerate(line) if at % prime]):
         return None
     # Each number of a prime field is its own power by the prime.
     return line[::prime]

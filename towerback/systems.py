@@ -67,13 +67,13 @@ def takes_solved(field, table, right, paper):
         return False
     if not solves(field, table, right, paper[1]):
         return False
-    return all(paper[1][at] == nought_of(field) for at in range(columns) if at not in leads)
+    return all([paper[1][at] == nought_of(field) for at in range(columns) if at not in leads])
 
 
 def shows_unsolved(field, table, right, row):
     """Tell whether any value is a row that shows that a system has no solution."""
     if not are_rows(field, (row,), len(table)):
         return False
-    wide = tuple(numbers + (number,) for numbers, number in zip(table, right))
+    wide = tuple([numbers + (number,) for numbers, number in zip(table, right)])
     columns = len(table[0])
     return rows_product(field, (row,), wide, columns + 1)[0] == (nought_of(field),) * columns + (one_of(field),)
