@@ -59,6 +59,19 @@ def power_rest(number, power, modulus):
     return rest
 
 
+def integer_power(number, power):
+    """Return a power of an integer, with an exponent from 0 on."""
+    found = 1
+    square = number
+    while power:
+        if power & 1:
+            found *= square
+        power >>= 1
+        if power:
+            square *= square
+    return found
+
+
 def is_small_prime(number):
     """Tell by trial whether an integer is a prime."""
     if number < 2:

@@ -136,6 +136,13 @@ def nested_height(ring, value):
     return max([nested_height(ring[1], part) for part in value], default=0)
 
 
+def nested_weight(ring, value):
+    """Return the sum of the sizes of all integers in a nested line."""
+    if isinstance(ring, int):
+        return abs(value)
+    return sum([nested_weight(ring[1], part) for part in value])
+
+
 def nested_at(ring, value, point):
     """Return the value of a nested line, in the ring of the field below, at an integer."""
     found = nested_constant(ring[1], 0)
