@@ -1,4 +1,4 @@
-"""The examples of points 54 to 77, just as they stand in DOC.md."""
+"""The examples of points 54 to 88, just as they stand in DOC.md."""
 
 import doctest
 import os
@@ -122,6 +122,66 @@ True
     (77, "degreeparts", r"""
 >>> [degree_parts(2, (1, 0, 0, 1)), degree_paper(2, (1, 0, 0, 1), 1), degree_paper(7, (6, 0, 1), 1)]
 [((1, (1, 1)), (2, (1, 1, 1))), None, ()]
+"""),
+    (78, "modfactors", r"""
+>>> [parts_of(5, (1, 0, 1)), is_unsplit(3, (1, 0, 1)), split_paper(3, (1, 0, 1)), unsplit_paper(5, (1, 0, 1)), unsplit_paper(7, (3, 1))]
+[((2, 1), (3, 1)), True, None, None, ()]
+>>> [factors_mod(2, (0, 0, 1, 0, 1)), factors_mod(7, (3,)), factors_mod(5, (2, 2))]
+[(1, (((0, 1), 2), ((1, 1), 2))), (3, ()), (2, (((1, 1), 1),))]
+"""),
+    (79, "unsplitlines", r"""
+>>> [first_unsplit(2, 4), next_unsplit(2, (1, 1, 0, 0, 1)), next_unsplit(2, (1, 1, 1)), count_unsplit(2, 4), count_unsplit(97, 2)]
+[(1, 1, 0, 0, 1), (1, 0, 0, 1, 1), None, 3, 4656]
+"""),
+    (80, "modpapers", r"""
+>>> [shows_degree(7, (6, 0, 1), 1, ()), shows_unsplit(2, (1, 1, 1), ((2, (), (1,)),)), shows_unsplit(2, (1, 0, 1), ()), shows_split(5, (1, 0, 1), ((2, 1), (3, 1)))]
+[True, True, False, True]
+>>> [shows_parts(2, (0, 0, 1, 0, 1), (1, (((0, 1), 2, ()), ((1, 1), 2, ())))), shows_parts(2, (0, 0, 1), (1, (((0, 0, 1), 1, ()),)))]
+[True, False]
+"""),
+    (81, "wholelines", r"""
+>>> [content_of((6, -4)), primitive_of((6, -4)), whole_divided((1, 0, -1), (1, 1)), whole_divided((1, 0, 2), (1, 1)), whole_at((1, 2, 3), -2), cleared_line(((1, 2), (-1, 3)))]
+[-2, (-3, 2), (1, -1), None, 9, ((-1, 6), (-3, 2))]
+"""),
+    (82, "divisorbounds", r"""
+>>> [points_of((0, -1, 1), 3), points_of((5,), 2), divisor_bound((1, 0, 0, 0, 1)), divisor_bound((6, 5, 1)), divisor_bound((7,))]
+[[-1, 2, -2], [0, 1], 3, 18, 7]
+"""),
+    (83, "lifts", r"""
+>>> [is_good_prime((1, 0, 1), 2), is_good_prime((1, 0, 1), 5), mod_parts((1, 0, 1), 5), lift_cofactors((1, 0, 1), 5), lifted_parts((1, 0, 1), 5, 2), is_lift((1, 0, 1), 5, 2, ((7, 1), (18, 1)))]
+[False, True, ((2, 1), (3, 1)), ((1,), (4,)), ((7, 1), (18, 1)), True]
+"""),
+    (84, "lots", r"""
+>>> EF = (1, 5, 6)
+>>> EL = lifted_parts(EF, 5, 3)
+>>> [EL, least_power(EF, 5), lots_of(EF, 5, 3, EL), lot_line(EF, 5, 3, EL, (0,)), first_lot(EF, 5, 3, EL), first_lot((1, 0, 1), 5, 2, ((7, 1), (18, 1)))]
+[((42, 1), (63, 1)), 4, [(0,), (1,)], (1, 3), ((0,), (1, 3)), None]
+"""),
+    (85, "wholefactors", r"""
+>>> [[row[:2] for row in whole_split((-4, 0, 8, 0, -4))[1]], whole_split((-6,)), whole_split((3, 6)), is_unsplit_whole((1, 0, 0, 0, 1)), whole_paper((1, 2, 1)), rational_split(((1, 2), (1, 1)))]
+[[((-1, 1), 2), ((1, 1), 2)], (-6, ()), (3, (((1, 2), 1, ('first',)),)), True, None, ((1, 2), (((1, 2), 1, ('first',)),))]
+"""),
+    (86, "wholepapers", r"""
+>>> [shows_unsplit_whole((1, 2), ("first",)), shows_unsplit_whole((1, 2, 1), ("first",)), shows_whole_split((-4, 0, 8, 0, -4), whole_split((-4, 0, 8, 0, -4))), shows_whole_split((3, 6), (3, ()))]
+[True, False, True, False]
+"""),
+    (87, "rootthings", r"""
+>>> FR = ("root", 0, ((1, 1), (0, 1), (1, 1)))
+>>> FN = ((1, 1), (2, 1))
+>>> [table_of(FR, FN), trace_of(FR, FN), norm_of(FR, FN), full_line(FR, FN)]
+[(((1, 1), (2, 1)), ((-2, 1), (1, 1))), (2, 1), (5, 1), ((5, 1), (-2, 1), (1, 1))]
+>>> [full_line(FR, ((3, 1),)), least_line(FR, ((3, 1),)), least_line(FR, FN) == full_line(FR, FN)]
+[((9, 1), (-6, 1), (1, 1)), ((-3, 1), (1, 1)), True]
+"""),
+    (88, "rootlifts", r"""
+>>> X, FQ = ("quot", 0), ((1, 4), (0, 1), (1, 1))
+>>> [constant_in(X, (1, 2)), constant_of(X, (((1, 2),), ((1, 1),))), constant_of(X, (((0, 1), (1, 1)), ((1, 1),)))]
+[(((1, 2),), ((1, 1),)), (1, 2), None]
+>>> [is_root_line(FQ), is_root_line(((-1, 4), (0, 1), (1, 1))), is_root_line(((0, 1), (1, 1))), with_root(0, FQ) == ("root", 0, FQ)]
+[True, False, False, True]
+>>> FS = spread_line(0, FQ, (((0, 1), (2, 1)), ((1, 1),)))
+>>> FS
+((((0, 1), (1, 1)), ((1, 1),)), (((2, 1),), ((1, 1),)))
 """),
 ]
 

@@ -4,7 +4,7 @@ from towerback.errors import InvalidLift
 from towerback.forms import is_prime_field
 from towerback.integers import integer_power, inverse_rest
 from towerback.lineroots import mod_of_whole, slope_of_whole
-from towerback.modfactors import parts_of_square_free
+from towerback.modfactors import is_unsplit_line, parts_of_square_free
 from towerback.modlines import mod_common, mod_divided, mod_inverse, mod_monic, mod_plus, mod_scaled, mod_times, trimmed
 from towerback.needs import need_integer
 from towerback.wholeways import is_whole, need_primitive
@@ -114,22 +114,29 @@ def lift_of(line, prime, parts, power):
     return tuple(parts)
 
 
-def are_lifted(parts, prime, modulus, value):
-    """Tell whether any value are monic lines, with numbers below a modulus, that are the parts mod a prime."""
-    if not isinstance(value, tuple) or len(value) != len(parts):
+def are_lifted(prime, modulus, value, degree):
+    """Tell whether any value are monic lines, of a degree in all, with numbers from 0 on below a modulus.
+
+    Mod a prime they must ascend, and none of them can be split.
+    """
+    if not isinstance(value, tuple):
         return False
-    for part, other in zip(parts, value):
-        if not is_whole(other) or len(other) != len(part) or other[-1] != 1:
+    last = ()
+    for line in value:
+        if not is_whole(line) or len(line) < 2 or line[-1] != 1 or not all(0 <= number < modulus for number in line):
             return False
-        if not all(0 <= number < modulus for number in other) or mod_of_whole(prime, other) != part:
+        part = mod_of_whole(prime, line)
+        degree -= len(part) - 1
+        if part <= last or degree < 0 or not is_unsplit_line(prime, part):
             return False
-    return True
+        last = part
+    return degree == 0
 
 
 def is_lift_of(line, prime, power, value):
     """Tell whether any value is the lift of a line to a power of a prime that is good for it."""
     modulus = integer_power(prime, power)
-    if not are_lifted(parts_mod(line, prime), prime, modulus, value):
+    if not are_lifted(prime, modulus, value, len(line) - 1):
         return False
     product = (line[-1],)
     for part in value:

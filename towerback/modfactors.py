@@ -71,6 +71,8 @@ def unsplit_papers(prime, parts):
 
 def is_unsplit_line(prime, line):
     """Tell whether a monic line can not be split."""
+    if len(line) == 2:
+        return True
     if len(mod_common(prime, line, line_slope(prime, line))) > 1:
         return False
     return split_by_degrees(prime, line)[0][0] == len(line) - 1
