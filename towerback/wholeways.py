@@ -85,6 +85,11 @@ def fraction_line(line):
     return tuple((number, 1) for number in line)
 
 
+def monic_fractions(line):
+    """Return a whole line that is not nought, by its last number, as a line over the fractions."""
+    return tuple(fraction(number, line[-1]) for number in line)
+
+
 def half_degree(line):
     """Return half the degree, rounded down, of a line that is not nought."""
     return (len(line) - 1) // 2
