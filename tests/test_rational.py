@@ -74,6 +74,9 @@ class Rational(Asks, unittest.TestCase):
                 self.assertEqual(sum(len(thing[0][0]) - 1 for _, thing in told) > 0, bool(told))
 
     def test_known_integrals(self):
+        line = ((0, 1), (0, 1), (1, 2))
+        self.assertIs(is_integral((GX, GO), ((line, GO), ())), True)
+        self.assertIs(is_integral((GX, GO), (line, GO)), False)
         self.assertEqual(integral_of(NOUGHT), (NOUGHT, ()))
         self.assertEqual(integral_of((GX, GO)), ((((0, 1), (0, 1), (1, 2)), GO), ()))
         self.assertEqual(integral_of((GO, GX)), (NOUGHT, ((((-1, 1), (1, 1)), (rational(0, 1),)),)))

@@ -8,7 +8,7 @@ from towerback.integers import fraction, inverse_rest
 from towerback.modlines import mod_common, mod_divided, mod_inverse, mod_times
 from towerback.nestedcommon import IMAGE_PRIME, TRIES, bottom_of, image_point
 from towerback.wholeforms import has_whole_forms
-from towerback.wholeparts import whole_common, whole_divided, whole_inverse, whole_times
+from towerback.wholeparts import whole_common, whole_divided, whole_inverse, whole_rest_of_product, whole_times
 
 
 def one_of(field):
@@ -89,6 +89,8 @@ def times(field, one, other):
         return fraction(one[0] * other[0], one[1] * other[1])
     if isinstance(field, int):
         return one * other % field
+    if field[0] == "root" and has_whole_forms(field[1]):
+        return whole_rest_of_product(field[1], one, other, field[2])
     if field[0] == "root":
         return lines_divided(field[1], lines_times(field[1], one, other), field[2])[1]
     return quotients_times(field[1], one, other)

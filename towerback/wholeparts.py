@@ -37,6 +37,28 @@ def whole_divided(field, line, other):
     return tuple(reversed(quotient)), line_of_whole(field, trimmed(rest), by_above)
 
 
+def whole_rest_of_product(field, one, other, modulus):
+    """Return the rest of the product of two lines by a third one, with one quotient for each number."""
+    if not one or not other:
+        return ()
+    above, by_above = whole_line(field, one)
+    beside, by_beside = whole_line(field, other)
+    divisor = whole_line(field, modulus)[0]
+    under = nested_times(field, by_above, by_beside)
+    rest = list(nested_times(("quot", field), above, beside))
+    unit = nested_constant(field, 1)
+    while len(rest) >= len(divisor):
+        top = rest.pop()
+        if top and divisor[-1] != unit:
+            rest = [nested_times(field, divisor[-1], part) for part in rest]
+            under = nested_times(field, under, divisor[-1])
+        first = len(rest) - len(divisor) + 1
+        for at, part in enumerate(divisor[:-1]):
+            if top and part:
+                rest[first + at] = nested_minus(field, rest[first + at], nested_times(field, top, part))
+    return line_of_whole(field, trimmed(rest), under)
+
+
 def are_shown_apart(field, one, other):
     """Tell whether images show that two lines that are not nought are apart."""
     bottom = bottom_of(field)
