@@ -58,6 +58,8 @@ def bound_names(tree):
             names.append(node.arg)
         elif isinstance(node, (ast.FunctionDef, ast.ClassDef)):
             names.append(node.name)
+        elif isinstance(node, ast.ExceptHandler) and node.name is not None:
+            names.append(node.name)
     return names
 
 

@@ -9,10 +9,11 @@ from towerback.parted import special_power, things_of_parts, three_parts
 from towerback.rawlines import line_slope
 from towerback.rawsums import below_of
 from towerback.rawtowers import derived_line, derived_number, tower_field
-from towerback.rawways import line_inverse, line_negated, lines_common, lines_divided, lines_exact, lines_minus
+from towerback.rawways import line_negated, lines_common, lines_divided, lines_exact, lines_minus
 from towerback.rawways import lines_plus, lines_times, nought_of, one_of, plus, settled
 from towerback.residues import is_normal_line
 from towerback.towers import need_tower
+from towerback.wholeparts import whole_rest_of_quotient
 
 
 def kernel_of_more(tower, more):
@@ -30,7 +31,7 @@ def turned(tower, over, plain, told):
     by = lines_times(below, slope, lines_exact(below, plain, kernel))
     rest = lines_divided(below, by, kernel)[1]
     above = lines_divided(below, line_negated(below, over), kernel)[1]
-    found = lines_divided(below, lines_times(below, above, line_inverse(below, rest, kernel)), kernel)[1]
+    found = whole_rest_of_quotient(below, above, rest, kernel)
     left = lines_minus(below, over, lines_times(below, derived_line(tower, found), plain))
     left = lines_plus(below, left, lines_times(below, found, by))
     return found, lines_exact(below, left, kernel)

@@ -3,21 +3,12 @@
 from towerback.forms import has_number_form
 from towerback.hermite import plain_hermite
 from towerback.integers import is_tagged
-from towerback.needs import need_number
 from towerback.rational import rational_part
 from towerback.rawroots import fraction_of, raised
 from towerback.rawtowers import FUNCTIONS, derived_number
 from towerback.rawways import inverted, plus, times
 from towerback.residues import is_normal_line
-from towerback.stepneeds import need_inner, need_short_function
-
-
-def need_limited(inner, function):
-    """Raise the errors of an inner function and of a rational function."""
-    need_inner(inner)
-    need_number(FUNCTIONS, function)
-    need_short_function(inner)
-    need_short_function(function)
+from towerback.stepneeds import need_two_functions
 
 
 def logarithm_slope(inner):
@@ -63,11 +54,11 @@ def shows_limited(inner, function, value):
 
 def limited_paper(u, h):
     """Return a limited paper of an inner function and of a rational function."""
-    need_limited(u, h)
+    need_two_functions(u, h)
     return plain_limited(u, h)
 
 
 def takes_limited(u, h, value):
     """Tell whether any value is a limited paper of an inner function and of a rational function."""
-    need_limited(u, h)
+    need_two_functions(u, h)
     return shows_limited(u, h, value)

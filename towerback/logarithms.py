@@ -66,29 +66,39 @@ def logarithm(tower, over, under, told, root_row):
     return root_line, spread(below, rows, len(root_line) - 1)
 
 
-def plain_logarithms(tower, over, under):
-    """Return the logarithms of a quotient, or None if there is a flaw."""
-    below = below_of(tower)
+def residues_told(tower, over, under):
+    """Return the pair of what residue_chain returns and of the residue line, or None if there is a flaw."""
     told = residue_chain(tower, over, under)
-    line = pencil_line(below, told[0], told[1])
-    if flaw_of(below, line) is not None:
-        return None
-    rows = root_rows(constant_line(below, line))
+    line = pencil_line(below_of(tower), told[0], told[1])
+    return None if flaw_of(below_of(tower), line) is not None else (told, line)
+
+
+def logarithms_of(tower, over, under, told, line):
+    """Return the logarithms of a quotient, from what residues_told returns."""
+    rows = root_rows(constant_line(below_of(tower), line))
     return tuple(sorted([logarithm(tower, over, under, told, row) for row in rows]))
 
 
-def plain_leftover(tower, over, under):
-    """Return the leftover of a quotient, or None if there is a flaw."""
+def leftover_of(tower, line):
+    """Return the leftover of a quotient, from its residue line."""
     below = below_of(tower)
-    told = residue_chain(tower, over, under)
-    line = pencil_line(below, told[0], told[1])
-    if flaw_of(below, line) is not None:
-        return None
     if tower == () or tower[-1][0] == "log":
         return nought_of(below)
     # Above all, the derivative of a line by the line comes to its degree times that of the exponential's function.
     slope = lifted_number(tower[:-1], derived_number((), tower[-1][1]))
     return times(below, line[-2], slope)
+
+
+def plain_logarithms(tower, over, under):
+    """Return the logarithms of a quotient, or None if there is a flaw."""
+    found = residues_told(tower, over, under)
+    return None if found is None else logarithms_of(tower, over, under, found[0], found[1])
+
+
+def plain_leftover(tower, over, under):
+    """Return the leftover of a quotient, or None if there is a flaw."""
+    found = residues_told(tower, over, under)
+    return None if found is None else leftover_of(tower, found[1])
 
 
 def logarithms(tower, over, under):

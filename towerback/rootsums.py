@@ -26,11 +26,14 @@ def has_sum_form(tower, value):
     return has_number_form(field_with(tower_field(tower), value[0]), value[1])
 
 
+def are_root_sums(tower, value):
+    """Tell whether any value is a tuple of root sums of a tower, of any size, however many they are."""
+    return isinstance(value, tuple) and all(has_sum_form(tower, root_sum) for root_sum in value)
+
+
 def have_sums_form(tower, value):
-    """Tell whether any value is a tuple of root sums of a tower, of any size."""
-    if not isinstance(value, tuple) or len(value) > MOST_SUMS:
-        return False
-    return all(has_sum_form(tower, root_sum) for root_sum in value)
+    """Tell whether any value is a tuple of root sums of a tower, of any size, and not too many."""
+    return are_root_sums(tower, value) and len(value) <= MOST_SUMS
 
 
 def need_sums(tower, value):

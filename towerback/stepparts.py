@@ -1,11 +1,12 @@
 """Things of a tower of one step as sums of powers of its unknown, and of a proper quotient."""
 
 from towerback.errors import ByNought, InvalidNumber
-from towerback.needs import need_integer, need_line, need_number
+from towerback.needs import need_integer, need_line
 from towerback.parted import three_parts, unknown_power
 from towerback.rawtowers import FUNCTIONS
 from towerback.rawways import nought_of, plus, settled
 from towerback.stepneeds import HIGHEST_OF_LINE, THINGS, need_short_function, need_short_lines, need_step
+from towerback.stepneeds import need_step_thing
 
 
 def plain_step_parts(step, thing):
@@ -32,10 +33,7 @@ def need_low(step, low):
 
 def step_parts(step, thing):
     """Return the parts of a thing of a tower of one step."""
-    need_step(step)
-    need_number(THINGS, thing)
-    need_short_function(step[1])
-    need_short_lines(thing)
+    need_step_thing(step, thing)
     return plain_step_parts(step, thing)
 
 

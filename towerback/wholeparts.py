@@ -43,9 +43,13 @@ def whole_rest_of_product(field, one, other, modulus):
         return ()
     above, by_above = whole_line(field, one)
     beside, by_beside = whole_line(field, other)
-    divisor = whole_line(field, modulus)[0]
     under = nested_times(field, by_above, by_beside)
-    rest = list(nested_times(("quot", field), above, beside))
+    return rest_of_whole(field, nested_times(("quot", field), above, beside), under, whole_line(field, modulus)[0])
+
+
+def rest_of_whole(field, line, under, divisor):
+    """Return the rest, as a line over the field, of a nested line by a number, divided by a nested line."""
+    rest = list(line)
     unit = nested_constant(field, 1)
     while len(rest) >= len(divisor):
         top = rest.pop()
@@ -105,8 +109,8 @@ def whole_mixed(field, one, other):
     return nested_minus(ring, nested_times(ring, one[0], one[1]), nested_times(ring, other[0], other[1]))
 
 
-def whole_inverse(field, line, modulus):
-    """Return the line, shorter than the modulus, whose product with a shorter line leaves one, or None."""
+def whole_inverse_pair(field, line, modulus):
+    """Return a nested line, and a number of the ring by which it is the inverse of a shorter line, or None."""
     above, by_above = whole_line(field, line)
     row = (whole_line(field, modulus)[0], ())
     behind = (above, (nested_constant(field, 1),))
@@ -114,4 +118,20 @@ def whole_inverse(field, line, modulus):
         row, behind = behind, whole_rest_row(field, row, behind)
     if not behind[0]:
         return None
-    return line_of_whole(field, nested_times(("quot", field), behind[1], (by_above,)), behind[0][0])
+    return nested_times(("quot", field), behind[1], (by_above,)), behind[0][0]
+
+
+def whole_inverse(field, line, modulus):
+    """Return the line, shorter than the modulus, whose product with a shorter line leaves one, or None."""
+    found = whole_inverse_pair(field, line, modulus)
+    return None if found is None else line_of_whole(field, found[0], found[1])
+
+
+def whole_rest_of_quotient(field, wished, line, modulus):
+    """Return the line, shorter than the modulus, whose product with a shorter line leaves the wished one, or None."""
+    found = whole_inverse_pair(field, line, modulus)
+    if found is None:
+        return None
+    above, by_above = whole_line(field, wished)
+    product = nested_times(("quot", field), above, found[0])
+    return rest_of_whole(field, product, nested_times(field, by_above, found[1]), whole_line(field, modulus)[0])
