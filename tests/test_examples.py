@@ -1,4 +1,4 @@
-"""The examples of points 54 to 98, just as they stand in DOC.md, but for one line of point 95."""
+"""The examples of points 54 to 120, just as they stand in DOC.md, but for one line of point 95."""
 
 import doctest
 import os
@@ -251,6 +251,101 @@ True
 >>> [limited_paper(HX, HI) == ("yes", H0, (1, 1)), limited_paper(HX, H1) == ("yes", HX, (0, 1)), takes_limited(HX, HI, ("no", H0, HI))]
 [True, True, False]
 """),
+    (99, "rischbounds", r"""
+>>> reduced_equation(HX, (((-1, 1), (1, 1)), ((0, 1), (0, 1), (1, 1))))
+(((0, 1), (1, 1)), ((0, 1), (1, 1)), ((-1, 1), (1, 1)), ((-1, 1), (1, 1)), 0)
+"""),
+    (100, "rischsolve", r"""
+>>> [risch_paper(HX, HI), risch_solution(HX, HX)]
+[('no', ((1, 1),), -1, ((1, 1),)), (((-1, 1), (1, 1)), ((1, 1),))]
+"""),
+    (101, "logarithmic", r"""
+>>> [takes_log_line(HX, (H0, H1), ("yes", ((((0, 1), (-1, 1)), ((1, 1),)), HX), ())), log_line_paper(HX, (H0, (((1, 1),), ((1, 1), (1, 1)))))[:2]]
+[True, ('no', 1)]
+"""),
+    (102, "exponential", r"""
+>>> exp_line_paper(HX, -1, (HI, H0, HI))
+('no', -1, ('no', ((1, 1),), -1, ((1, 1),)))
+"""),
+    (103, "onestep", r"""
+>>> [has_steady_residues(HL, ((H1,), (H0, H1))), has_steady_residues(HL, ((HI,), (H0, H1)))]
+[False, True]
+>>> [one_step_paper(HL, ((H1,), (H0, H1)))[2] == ("residue", (HX,)), one_step_paper(HE, ((H1,), (H1, H1)))[0]]
+[True, 'yes']
+"""),
+    (104, "terms", r"""
+>>> IT = ("over", ("plus", ("x",), ("whole", 1)), ("power", ("x",), 2))
+>>> [is_term(IT), is_term(("power", ("x",), 13)), height_of(IT), size_of(IT), part_at(IT, (0, 1)), parts_of(("log", ("x",)))]
+[True, False, 3, (1, 2), ('whole', 1), (('x',),)]
+"""),
+    (105, "termreading", r"""
+>>> [read_term(" 2 * x ^ 2"), read_term("-log(x)/3"), first_refused("x+*2"), first_refused("lo"), first_refused("x^13")]
+[('times', ('whole', 2), ('power', ('x',), 2)), ('negative', ('over', ('log', ('x',)), ('whole', 3))), 2, 2, 3]
+"""),
+    (106, "termwriting", r"""
+>>> [write_term(IT), write_term(read_term("(-x)*(2*x)-((1)-x)"))]
+['(x+1)/x^2', '(-x)*(2*x)-(1-x)']
+"""),
+    (107, "termslopes", r"""
+>>> write_term(derived_term(read_term("x*log(x)")))
+'1*log(x)+x*(1/x)'
+"""),
+    (108, "termled", r"""
+>>> IL = tower_of(read_term("log(x)+exp(x-x)"))
+>>> [IL, thing_in((), IT), thing_in(IL, read_term("log(x)")) == last_unknown(IL)]
+[(('log', (((0, 1), (1, 1)), ((1, 1),))),), (((1, 1), (1, 1)), ((0, 1), (0, 1), (1, 1))), True]
+"""),
+    (109, "termback", r"""
+>>> [write_term(term_of((), (((-1, 2), (0, 1), (1, 1)), ((1, 1), (1, 1))))), write_term(term_of((), (((2, 1), (-3, 1)), ((1, 1),))))]
+['(x^2-1/2)/(x+1)', '-(3*x-2)']
+"""),
+    (111, "answertexts", r"""
+>>> IA = (((), ((1, 1),)), ((((-1, 2), (1, 1)), ((((0, 1), (1, 1)), ((1, 1),)),)), (((2, 1), (1, 1)), ((((1, 1), (1, 1)), ((1, 1),)),))))
+>>> write_answer((), IA)
+'1/2*log(x)-2*log(x+1)'
+"""),
+    (112, "spreads", r"""
+>>> JO, JX = ((1, 1),), ((0, 1), (1, 1))
+>>> JT = (("log", (JX, JO)), ("exp", (JX, JO)))
+>>> [spread_of((), (JX, JO)), spread_of(JT, last_unknown(JT)), spread_of(JT, lifted_thing(JT, ((), JO)))]
+[(((), (((0, 1), (1, 1)), ((1, 1),))),), (((0, 1), (((1, 1),), ((1, 1),))),), ()]
+"""),
+    (113, "severals", r"""
+>>> [len(told_system(JT, last_unknown(JT))[0]), told_system(JT, last_unknown(JT))[1:]]
+[2, ((((1, 1), (1, 1)), ((0, 1), (1, 1))), ((1, 1), (0, 1)))]
+"""),
+    (114, "integrated", r"""
+>>> [integrated((), (JO, JX))[0], integrated(JT, last_unknown(JT))[0], integrated(JT[:1], last_unknown(JT[:1]))[0]]
+['yes', 'yes', 'yes']
+"""),
+    (115, "judge", r"""
+>>> [takes((), (JO, JO), ("yes", (JX, JO), ())), takes((), (JO, JO), ("yes", (((5, 1), (1, 1)), JO), ())), takes((), (JO, JO), ("yes", (JO, JO), ())), takes(JT, last_unknown(JT), ("open", None))]
+[True, True, False, False]
+"""),
+    (116, "asked", r"""
+>>> [told("2*x"), told("1/x"), told("x*exp(x)"), told("exp(x)/x"), told("log(x)"), told("1/(x^2+1)")]
+['x^2', 'log(x)', '(x-1)*exp(x)', 'none', 'x*log(x)-x', 'sum(c*log(2*c+x) for c^2+1/4=0)']
+"""),
+    (117, "makers", r"""
+>>> KX, KY = (((0, 1), (1, 1)), ((1, 1),)), (((1, 1), (1, 1)), ((0, 1), (1, 1)))
+>>> [log_parts(KX), log_parts(KY), log_parts((((1, 1),), ((1, 1),))), log_relation((KX, KY)), exp_relation((KX, KX)) in ((1, -1), (-1, 1))]
+[(((0, 1), 1),), (((0, 1), -1), ((1, 1), 1)), (), None, True]
+"""),
+    (118, "wholebases", r"""
+>>> KH = (((0, 1), (1, 2)), ((1, 1),))
+>>> [whole_basis((KX, KH)) == ((KH,), ((2,), (1,))), whole_basis(())]
+[True, ((), ())]
+"""),
+    (119, "valueforms", r"""
+>>> KT, KU = ("log", ("power", ("x",), 2)), ("times", ("whole", 2), ("log", ("x",)))
+>>> [makers_of(KT, ("exp", ("x",))) == (((0, 1),), (KX,)), are_one(KT, KU), are_one(KT, ("x",)), are_one(("exp", ("negative", ("x",))), ("over", ("whole", 1), ("exp", ("x",))))]
+[True, True, False, True]
+"""),
+    (120, "unlikes", r"""
+>>> KP = ((3, 1), ((5, 1),), ())
+>>> [values_at(KT, KU, KP), values_at(KT, ("over", ("whole", 1), ("log", ("x",))), ((3, 1), ((0, 1),), ())), unlike_paper(KT, KU), shows_unlike(KT, ("x",), KP), shows_unlike(KT, KU, KP)]
+[((10, 1), (10, 1)), ((0, 1), None), None, True, False]
+"""),
 ]
 
 
@@ -278,3 +373,4 @@ class Examples(unittest.TestCase):
 
 if __name__ == "__main__":
     unittest.main()
+
