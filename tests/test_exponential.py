@@ -128,6 +128,13 @@ class Exponential(Asks, unittest.TestCase):
                     paper = ("no", low + at, risch_paper(times_inner(U, low + at), number))
                     self.assertIs(takes_exp_line(U, low, row, paper), True)
                     self.assertIs(takes_exp_line(U, low, row, ("no", low + at, paper[2][:3] + (((7, 1),),))), False)
+                    solved = ("yes", rational(0, 1))
+                    asked = row[:at] + (left_side(times_inner(U, low + at), solved[1]),) + row[at + 1:]
+                    self.assertIs(takes_exp_line(U, low, asked, ("no", low + at, solved)), False)
+                else:
+                    # With the power 0, Risch's equation is one of a constant: that it has no solution shows nothing.
+                    for under, most in ((((1, 1),), 0), (((1, 1),), -1), (((0, 1), (1, 1)), 0)):
+                        self.assertIs(takes_exp_line(U, low, row, ("no", 0, ("no", under, most, ((1, 1),)))), False)
             for power in (0, low - 1, low + 5, None, True, "1"):
                 paper = ("no", power, risch_paper(U, W))
                 self.assertIs(takes_exp_line(U, low, row, paper), False)

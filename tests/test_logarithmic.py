@@ -129,6 +129,10 @@ class Logarithmic(Asks, unittest.TestCase):
         self.assertEqual(log_line_paper(U, (NOUGHT, SHIFTED)), ("no", 1, (), ("no", NOUGHT, SHIFTED)))
         self.assertEqual(log_line_paper(U, (NOUGHT, SHIFTED, ONE))[:3], ("no", 1, ((U, (0, 1)),)))
         self.assertEqual(log_line_paper(U, (ONE, NOUGHT, SHIFTED)), ("no", 2, (), ("no", NOUGHT, SHIFTED)))
+        paper = log_line_paper(U, (NOUGHT, SHIFTED, NOUGHT, ONE))
+        self.assertEqual(paper[:3], ("no", 1, ((U, (0, 1)), (rational(0, -3), (0, 1)))))
+        paper = log_line_paper(U, (NOUGHT, SHIFTED, NOUGHT, U, W))
+        self.assertEqual(paper[:2] + (len(paper[2]),), ("no", 1, 3))
         # What is left below may be what the number there was not.
         line = (NOUGHT, number_times(X, SHIFTED, rational(2, 2)), number_of(X, 1, 1))
         self.assertEqual(log_line_paper(U, line)[0], "yes")
@@ -137,7 +141,7 @@ class Logarithmic(Asks, unittest.TestCase):
         self.assertEqual(paper, ("yes", (), ((((1, 4), (0, 1), (1, 1)), (U, rational(2))),)))
 
     def test_judge(self):
-        lines = [(U, ()), (U, (NOUGHT, ONE)), (U, (SHIFTED, W)), (V, (NOUGHT, ONE)), (U, (NOUGHT, SHIFTED, ONE)), (U, (ONE, NOUGHT, SHIFTED))]
+        lines = [(U, (NOUGHT, SHIFTED, NOUGHT, U, W)), (U, ()), (U, (NOUGHT, ONE)), (U, (SHIFTED, W)), (V, (NOUGHT, ONE)), (U, (NOUGHT, SHIFTED, ONE)), (U, (ONE, NOUGHT, SHIFTED))]
         for inner, line in lines:
             paper = log_line_paper(inner, line)
             self.judges(takes_log_line, (inner, line), paper, False)

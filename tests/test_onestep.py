@@ -133,7 +133,27 @@ class OneStep(Asks, unittest.TestCase):
             self.assertEqual(paper[2][:len(first)], first)
             self.assertEqual((len(first), len(paper[2])), (1, 2))
             self.assertEqual(paper[2][1:], lifted_sums(integral_of((((3, 1),), ((1, 1), (1, 1))))[1]))
-        # What h leaves over for an exponential is integrated at the power 0.
+        # Several residues, of parts of one under.
+        for step in (LOG, EXP):
+            tower = (step,)
+            sums = ((((-5, 1), (1, 1)), (((rational(0, 0, 1), ONE), (ONE,)),)), (((-2, 1), (1, 1)), (((U, ONE), (ONE,)),)), (((1, 3), (1, 1)), (((rational(3), U, ONE), (ONE,)),)))
+            thing = sums_derived(tower, sums)
+            self.assertIs(short_thing(thing), True)
+            paper = self.told(step, thing)
+            self.assertEqual((paper[0], len(paper[2]), paper[2][:3]), ("yes", 3, sums))
+            self.assertIs(has_steady_residues(step, thing), True)
+        # What h leaves over for an exponential is integrated at the power 0, also with powers below it.
+        for low in range(-2, 1):
+            thing = number_plus(XX, ((ONE,), (ONE, ONE)), thing_from(low, (ONE, U, W)))
+            paper = self.told(EXP, thing)
+            if paper[0] == "yes":
+                self.assertEqual(len(paper[2]), 2)
+            else:
+                self.assertEqual(paper[2][:2], ("power", 2 + low))
+        thing = number_plus(XX, ((ONE,), (ONE, ONE)), thing_from(-3, (ONE,)))
+        self.assertEqual(self.told(EXP, thing)[1], number_plus(XX, lifted(U), thing_from(-3, (number_of(X, -1, 3),))))
+        thing = number_plus(XX, ((ONE,), (ONE, ONE)), thing_from(-2, (ONE, NOUGHT, W)))
+        self.assertEqual(len(self.told(EXP, thing)[2]), 2)
         thing = ((ONE,), (ONE, ONE))
         paper = self.told(EXP, thing)
         self.assertEqual(paper, ("yes", lifted(U), ((((1, 1), (1, 1)), (((ONE, ONE), (ONE,)),)),)))

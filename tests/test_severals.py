@@ -148,6 +148,12 @@ class Severals(Asks, unittest.TestCase):
                 self.assertEqual(len(told_system(tower, thing)[1]), many + 2)
             else:
                 self.limited(tower, thing)
+        # Many columns, few rows, with one row of exponents that is tried and with two.
+        for tower, many in (((EXP, ("exp", W)), 38), (JT, 18)):
+            columns, table, _ = told_system(tower, lifted_thing(tower, rational(*[0] * many, 1)))
+            self.assertEqual(len(columns), 40)
+            self.assertLess(len(table), 30)
+            self.limited(tower, lifted_thing(tower, rational(*[0] * (many + 1), 1)))
         # However great the exponents are.
         self.limited(THREE, product_of(THREE, (30, 1, 30), ONE))
         self.limited(JT, product_of(JT, (30, 0), ONE))

@@ -179,6 +179,8 @@ class Unlikes(Asks, unittest.TestCase):
         for call, behind in calls:
             self.refuses_all(InvalidTerm, call, (), not_terms, (None,) + behind)
             self.refuses_all(InvalidTerm, call, (("power", X1, 12),), not_terms, behind)
+            self.refuses_all(InvalidTerm, call, (), not_terms, (("power", X1, 12),) + behind)
+            self.refuses_all(InvalidTerm, call, (), not_terms, (X1,) + behind)
             for one, other, error in ((("log", ("over", X1, ZERO)), X1, NoValue), (("log", LOG_X), X1, InvalidMaker), (X1, ("exp", W1), InvalidMaker), (("log", ZERO), ("exp", ("over", W1, W0)), InvalidMaker)):
                 self.refused(error, call, one, other, *behind)
             for one, other, limit in ((("power", X1, 9), ("log", W0), 8), (X1, ("log", ("power", X1, 9)), 8), (read_term(WIDE + "+exp(x)+exp(x^2)"), read_term("exp(1/x)+exp(1/(x+1))"), 6), (EXP_X, ("exp", ("times", ("whole", 25), X1)), 24)):

@@ -180,6 +180,8 @@ class ValueForms(Asks, unittest.TestCase):
         not_terms = NOT_TERMS + [chain(60), of_many(20001), "x"]
         for function in (makers_of, are_one):
             self.refuses_all(InvalidTerm, function, (), not_terms, (None,))
+            for other in (X1, ("log", W0), ("power", X1, 12), ("over", X1, W0)):
+                self.refuses_all(InvalidTerm, function, (), not_terms, (other,))
             self.refuses_all(InvalidTerm, function, (X1,), not_terms)
             self.refuses_all(InvalidTerm, function, (("log", W0),), not_terms)
             self.refuses_all(InvalidTerm, function, (("power", X1, 12),), not_terms)

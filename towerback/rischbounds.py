@@ -39,9 +39,9 @@ def degree_bound(first, second, wished):
         return max(-1, degree - low)
     if low < high - 1:
         return max(0, degree - high + 1)
-    over, under = second[-1]
-    # The last numbers of both products cancel for a line of this degree alone.
-    return max(-1, degree - low, -over) if under == 1 else max(-1, degree - low)
+    # The last numbers of both products cancel for a line of one degree alone: it is that of the under of the
+    # solutions, as D w, a derivative, has no number at the power -1 far away.
+    return max(degree - low, -second[-1][0])
 
 
 def plain_reduced(inner, function):
